@@ -5,6 +5,7 @@ import (
 	"strings"
 
 	"cartouche/api"
+	"cartouche/fields"
 	"cartouche/scalar"
 )
 
@@ -120,13 +121,13 @@ func doRise(l []api.FieldType) bool {
 }
 
 // areFree tells whether ranges rise within their bounds, and no field has one of their numbers.
-func areFree(l []api.Range, fields []api.FieldType) bool {
+func areFree(l []api.Range, taken []api.FieldType) bool {
 	last := 0
 	for _, r := range l {
 		if r.Low <= last || r.Low > r.High {
 			return false
 		}
-		if f, ok := lastUpTo(fields, r.High); ok && f.Number >= r.Low {
+		if f, ok := fields.LastUpTo(taken, r.High); ok && f.Number >= r.Low {
 			return false
 		}
 		last = r.High

@@ -1,0 +1,49 @@
+// Package fields: what the fields of a type say, one by one. Each call of package table asks first whether the whole table is good: that is too much for each field and each entry of a message, so a layer that has asked it once asks here.
+package fields
+
+import (
+	"math/bits"
+
+	"cartouche/api"
+	"cartouche/scalar"
+)
+
+// LastUpTo tells, of fields by rising numbers, the last one whose number is not above that one.
+func LastUpTo(l []api.FieldType, number int) (api.FieldType, bool) {
+	first, left := 0, len(l)
+	for range bits.Len(uint(left)) { // so many halvings leave one
+		half := left / 2
+		if l[first+half].Number <= number {
+			first += half
+		}
+		left -= half
+	}
+	if left == 0 || l[first].Number > number {
+		return api.FieldType{}, false
+	}
+	return l[first], true
+}
+
+// Find tells, of fields by rising numbers, the one with that number.
+func Find(l []api.FieldType, number int) (api.FieldType, bool) {
+	f, ok := LastUpTo(l, number)
+	if !ok || f.Number != number {
+		return api.FieldType{}, false
+	}
+	return f, true
+}
+
+// TakesValue tells whether a field takes entries of its number and that wire kind as values.
+func TakesValue(f api.FieldType, kind int) bool {
+	if f.Label == api.Map { // its values stand in a chunk, each with its key
+		return kind == api.Chunk
+	}
+	own, e := scalar.Wire(f.Kind)
+	return e == api.OK && kind == own
+}
+
+// TakesRow tells whether it takes them as rows of values.
+func TakesRow(f api.FieldType, kind int) bool {
+	isList := f.Label == api.Repeated || f.Label == api.Packed
+	return isList && scalar.Numeric(f.Kind) && kind == api.Chunk
+}

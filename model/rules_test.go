@@ -1,0 +1,358 @@
+package model_test
+
+import (
+	"cmp"
+	"fmt"
+	"math"
+	"slices"
+	"strings"
+	"sync"
+	"testing"
+	"unsafe"
+
+	"cartouche/api"
+	"cartouche/model"
+)
+
+// all asks each call, and tells all answers; beside an error or a false each answer must be zero.
+func all(t *testing.T, x api.Table, index int, a, b api.Msg, f api.Field) string {
+	t.Helper()
+	isTyped, e1 := model.Typed(x, index, a)
+	isNormal, e2 := model.Normal(x, index, a)
+	with, e3 := model.Set(x, index, a, f)
+	settled, e4 := model.Settle(x, index, a)
+	got, ok := model.Get(a, f.Number)
+	if e1 != api.OK && isTyped || e2 != api.OK && isNormal || e3 != api.OK && told(with) != "{}" || e4 != api.OK && told(settled) != "{}" || !ok && told(msg(got)) != told(msg(field(0))) {
+		t.Errorf("of %s more than an error is told", shortly(a))
+	}
+	for i, e := range []api.Errno{e1, e2, e3, e4} {
+		if e != api.OK && e != api.ErrArg && (e != api.ErrType || i < 2) || (e == api.ErrArg) != (e1 == api.ErrArg) {
+			t.Errorf("of %s call %d tells error %d", shortly(a), i, e)
+		}
+	}
+	return fmt.Sprint(isTyped, e1, isNormal, e2, told(with), e3, told(settled), e4, told(msg(got)), ok, model.Equal(a, b), told(model.Copy(a)), model.Depth(a), told(model.Clear(a, f.Number)))
+}
+
+// wild tells a plain message in which anything may stand anywhere.
+func (m *maker) wild(depth int) api.Msg {
+	number := func() int {
+		return pick(m, m.chance.Intn(12), m.chance.Intn(6), -1, api.MaxNumber, api.MaxNumber+1, math.MinInt, math.MaxInt)
+	}
+	bits := func() uint64 { return pick[uint64](m, 0, 1, 5, 1<<31, 1<<32, math.MaxUint64) }
+	some := func() []byte { return pick(m, nil, nil, []byte{}, []byte("a"), []byte("\xff")) }
+	vals := func() []api.Val {
+		var l []api.Val
+		for range m.chance.Intn(3) {
+			v := api.Val{N: bits(), B: some()}
+			for range m.chance.Intn(3) * min(depth, 1) {
+				v.M = append(v.M, m.wild(depth-1))
+			}
+			l = append(l, v)
+		}
+		return l
+	}
+	var out api.Msg
+	for range m.chance.Intn(4) {
+		out.Fields = append(out.Fields, api.Field{Number: number(), Keys: vals(), Vals: vals()})
+		out.Unknown = append(out.Unknown, api.Entry{Number: number(), Kind: number(), N: bits(), B: some()})
+	}
+	return out
+}
+
+// spoiled tells a table with one number changed, so that it may not be good.
+func (m *maker) spoiled(t api.Table) api.Table {
+	i := m.chance.Intn(len(t.Types))
+	x := &t.Types[i]
+	n := pick(m, 0, 1, 2, 5, 17, 18, -1, api.MaxNumber+1, math.MinInt, math.MaxInt)
+	switch {
+	case m.chance.Intn(4) == 0:
+		x.Enum = !x.Enum
+	case len(x.Symbols) > 0:
+		x.Symbols[m.chance.Intn(len(x.Symbols))].Number = n
+	case len(x.Fields) > 0:
+		f := &x.Fields[m.chance.Intn(len(x.Fields))]
+		*pick(m, &f.Number, &f.Kind, &f.Ref, &f.Label, &f.Oneof, &f.Key) = n
+	}
+	return t
+}
+
+// TestR1R2 has tables that are not good, any index and number, and messages of any sort: none panics.
+func TestR1R2(t *testing.T) {
+	m := newMaker(87)
+	for range 4000 {
+		x := m.table()
+		if m.chance.Intn(2) == 0 {
+			x = m.spoiled(x)
+		}
+		a, b := m.wild(3), m.wild(1)
+		if m.chance.Intn(3) == 0 {
+			a = m.changed(m.message(m.table(), 0, 2))
+		}
+		f := field(m.fieldNumber())
+		if len(b.Fields) > 0 {
+			f = b.Fields[0]
+		}
+		all(t, x, pick(m, m.chance.Intn(len(x.Types)+2)-1, 0, 0, math.MinInt, math.MaxInt), a, b, f)
+	}
+}
+
+// TestR1Big has as many parts as can be asked for, within one another and one behind the other: each call ends soon.
+func TestR1Big(t *testing.T) {
+	const deep, many = 1 << 16, 1 << 18
+	low := msg(field(1, num(0)))
+	tower := low
+	for range deep - 1 {
+		tower = msg(field(3, in(tower)))
+	}
+	for i := range 3 {
+		list := field(2)
+		if i > 0 {
+			list.Vals = slices.Repeat([]api.Val{num(1)}, many)
+		}
+		if i > 1 {
+			list.Vals[many-1] = num(-1)
+		}
+		want := []int{typed, normal, other}[i]
+		lookAt(t, em(), 1, msg(list), want)
+		lookAt(t, em(), 1, msg(list, field(3, in(msg(list)))), want)
+	}
+	if ok, _ := model.Typed(em(), 1, tower); !ok {
+		t.Error("messages within one another: not typed")
+	}
+	if ok, _ := model.Normal(em(), 1, tower); ok {
+		t.Error("messages within one another: normal")
+	}
+	settled, e := model.Settle(em(), 1, tower)
+	with, e2 := model.Set(em(), 1, tower, field(1, num(1)))
+	if e != api.OK || e2 != api.OK || model.Depth(tower) != deep || model.Depth(settled) != deep || model.Depth(with) != deep || model.Depth(model.Copy(tower)) != deep || model.Depth(model.Clear(tower, 1)) != deep {
+		t.Errorf("messages within one another: depth %d, settled %d", model.Depth(tower), model.Depth(settled))
+	}
+	if model.Equal(tower, settled) || !model.Equal(tower, model.Copy(tower)) {
+		t.Error("messages within one another are not held against each other")
+	}
+	entries := slices.Repeat([]api.Entry{varint(9, 1)}, many)
+	lookAt(t, full(), 0, unknown(entries...), typed)
+	entries = slices.Repeat([]api.Entry{varint(1000, 1)}, many)
+	lookAt(t, full(), 0, unknown(entries...), normal)
+	entries[many-1].Kind = 3
+	lookAt(t, full(), 0, unknown(entries...), other)
+	lookAt(t, full(), 0, msg(slices.Repeat([]api.Field{field(1, num(1))}, many)...), other)
+	lookAt(t, em(), 1, unknown(chunk(9, strings.Repeat("a", many))), normal)
+}
+
+// full tells the greatest table that is good.
+func full() api.Table {
+	var t api.Table
+	for i := range api.MaxTypes {
+		x := messageOf(fmt.Sprint("M", i))
+		for j := range api.MaxFields {
+			x.Fields = append(x.Fields, api.FieldType{Name: fmt.Sprint("f", j), Number: j + 1, Kind: api.Int32})
+		}
+		t.Types = append(t.Types, x)
+	}
+	return t
+}
+
+// withRoom tells a message whose lists have spare room, with something in it.
+func withRoom(m api.Msg) api.Msg {
+	out := copyOf(m)
+	touch{
+		number: func(*int) {}, bits: func(*uint64) {},
+		bytes: func(l *[]byte) { roomy(l, 7) }, vals: func(l *[]api.Val) { roomy(l, num(7)) }, msgs: func(l *[]api.Msg) { roomy(l, msg(field(7))) },
+		fields: func(l *[]api.Field) { roomy(l, field(7, num(7))) }, rest: func(l *[]api.Entry) { roomy(l, chunk(7, "a")) },
+	}.message(&out)
+	return out
+}
+
+func roomy[T any](l *[]T, with T) {
+	count := len(*l)
+	for range 3 {
+		*l = append(*l, with)
+	}
+	*l = (*l)[:count]
+}
+
+// wholly tells all that stands in a message's memory, spare room too.
+func wholly(m api.Msg) string {
+	var b strings.Builder
+	c := m
+	touch{
+		number: func(n *int) { fmt.Fprint(&b, *n, " ") }, bits: func(n *uint64) { fmt.Fprint(&b, *n, " ") },
+		bytes: func(l *[]byte) { tell(&b, *l) }, vals: func(l *[]api.Val) { tell(&b, *l) }, msgs: func(l *[]api.Msg) { tell(&b, *l) },
+		fields: func(l *[]api.Field) { tell(&b, *l) }, rest: func(l *[]api.Entry) { tell(&b, *l) },
+	}.message(&c)
+	return b.String()
+}
+
+func tell[T any](b *strings.Builder, l []T) { fmt.Fprintf(b, "%d %d %v; ", len(l), cap(l), l[:cap(l)]) }
+
+func TestR4Arguments(t *testing.T) {
+	m := newMaker(88)
+	for range 600 {
+		x := m.table()
+		a, b := withRoom(m.message(x, 0, 2)), withRoom(m.wild(2))
+		f := field(1)
+		if other := withRoom(m.message(x, 0, 2)); len(other.Fields) > 0 {
+			f = pick(m, other.Fields...)
+		}
+		types := fmt.Sprintf("%+v", x)
+		before := []string{wholly(a), wholly(b), wholly(msg(f))}
+		all(t, x, 0, a, b, f)
+		all(t, x, 0, b, a, f)
+		if after := []string{wholly(a), wholly(b), wholly(msg(f))}; !slices.Equal(before, after) || fmt.Sprintf("%+v", x) != types {
+			t.Errorf("changed: %v, was %v", after, before)
+		}
+	}
+}
+
+// stretch is memory: from its first byte to the one behind its last; of an answer (own) or of what was handed in.
+type stretch struct {
+	from, to uintptr
+	own      bool
+}
+
+// stretches tells the memory of each list of a message, spare room too.
+func stretches(m api.Msg, own bool) []stretch {
+	var out []stretch
+	c := m
+	touch{
+		number: func(*int) {}, bits: func(*uint64) {},
+		bytes: func(l *[]byte) { addStretch(&out, *l, own) }, vals: func(l *[]api.Val) { addStretch(&out, *l, own) }, msgs: func(l *[]api.Msg) { addStretch(&out, *l, own) },
+		fields: func(l *[]api.Field) { addStretch(&out, *l, own) }, rest: func(l *[]api.Entry) { addStretch(&out, *l, own) },
+	}.message(&c)
+	return out
+}
+
+func addStretch[T any](out *[]stretch, l []T, own bool) {
+	var one T
+	if cap(l) > 0 {
+		from := uintptr(unsafe.Pointer(unsafe.SliceData(l)))
+		*out = append(*out, stretch{from, from + uintptr(cap(l))*unsafe.Sizeof(one), own})
+	}
+}
+
+// lookAtMemory sees that no two lists of an answer share memory, and none with what was handed in.
+func lookAtMemory(t *testing.T, what string, answer api.Msg, given ...api.Msg) {
+	t.Helper()
+	l := stretches(answer, true)
+	for _, m := range given {
+		l = append(l, stretches(m, false)...)
+	}
+	slices.SortFunc(l, func(a, b stretch) int { return cmp.Compare(a.from, b.from) })
+	var ownEnd, otherEnd uintptr
+	for _, x := range l {
+		if x.from < ownEnd || x.own && x.from < otherEnd {
+			t.Errorf("%s: %s shares memory", what, told(answer))
+			return
+		}
+		if x.own {
+			ownEnd = max(ownEnd, x.to)
+		} else {
+			otherEnd = max(otherEnd, x.to)
+		}
+	}
+}
+
+// sharing tells a message whose equal lists are one, as far as that can be.
+func sharing() (m api.Msg, f api.Field) {
+	some := []byte("ab")
+	low := []api.Msg{{Fields: []api.Field{field(2, num(1))}, Unknown: []api.Entry{{Number: 20, Kind: api.Chunk, B: some}}}}
+	vals := []api.Val{{M: low}}
+	top := []api.Msg{{Fields: []api.Field{{Number: 5, Vals: vals}, {Number: api.MaxNumber, Vals: []api.Val{{B: some}}}}}}
+	m = api.Msg{Fields: []api.Field{
+		{Number: 2, Vals: []api.Val{{B: some}}}, {Number: 5, Vals: vals}, {Number: 8, Vals: []api.Val{{M: top}, {M: top}}},
+		{Number: 9, Keys: []api.Val{{B: some[:1]}, {B: some}}, Vals: []api.Val{{M: low}, {M: low}}}, {Number: 13, Vals: vals}, {Number: api.MaxNumber, Vals: []api.Val{{B: some}}},
+	}, Unknown: []api.Entry{{Number: 20, Kind: api.Chunk, B: some}, {Number: 20, Kind: api.Chunk, B: some}}}
+	return m, api.Field{Number: 8, Vals: m.Fields[2].Vals}
+}
+
+func TestR4AnswersAreNew(t *testing.T) {
+	look := func(x api.Table, a api.Msg, f api.Field) {
+		t.Helper()
+		lookAtMemory(t, "Copy", model.Copy(a), a)
+		lookAtMemory(t, "Clear", model.Clear(a, f.Number), a)
+		if got, ok := model.Get(a, f.Number); ok {
+			lookAtMemory(t, "Get", msg(got), a)
+		}
+		if got, e := model.Set(x, 1, a, f); e == api.OK {
+			lookAtMemory(t, "Set", got, a, msg(f))
+		}
+		if got, e := model.Settle(x, 1, a); e == api.OK {
+			lookAtMemory(t, "Settle", got, a)
+		}
+	}
+	a, f := sharing()
+	lookAt(t, wide(), 1, a, normal)
+	if _, e := model.Set(wide(), 1, a, f); e != api.OK {
+		t.Errorf("Set: error %d", e)
+	}
+	look(wide(), a, f)
+	look(wide(), a, a.Fields[0])
+	m := newMaker(89)
+	for range 600 {
+		a, b := m.message(wide(), 1, 3), m.message(wide(), 1, 2)
+		if m.chance.Intn(4) == 0 {
+			a = m.wild(3)
+		}
+		a = withRoom(pick(m, a, emptied(a)))
+		f := field(3, num(0))
+		if len(b.Fields) > 0 {
+			f = pick(m, b.Fields...)
+		}
+		look(wide(), a, withRoom(msg(f)).Fields[0])
+		if len(a.Fields) > 0 {
+			look(wide(), a, a.Fields[0])
+		}
+	}
+}
+
+// TestR4EmptyLists sees that nil and an empty list are one.
+func TestR4EmptyLists(t *testing.T) {
+	m := newMaker(90)
+	for range 2000 {
+		x := m.table()
+		a, b := m.changed(m.message(x, 0, 2)), m.wild(2)
+		f := field(1)
+		if other := m.message(x, 0, 2); len(other.Fields) > 0 {
+			f = other.Fields[0]
+		}
+		g := emptied(msg(f)).Fields[0]
+		if one, two := all(t, x, 0, a, b, f), all(t, x, 0, emptied(a), emptied(b), g); one != two {
+			t.Errorf("%s with empty lists: %s, want %s", told(a), two, one)
+		}
+	}
+}
+
+// TestR5Many asks from many goroutines at a time, of one table and one message.
+func TestR5Many(t *testing.T) {
+	m := newMaker(91)
+	x := wide()
+	var given []api.Msg
+	var want []string
+	for range 30 {
+		a := m.message(x, 1, 3)
+		given = append(given, a)
+		want = append(want, all(t, x, 1, a, given[0], field(4, num(1))))
+	}
+	var group sync.WaitGroup
+	for worker := range 8 {
+		group.Go(func() {
+			for step := range 200 {
+				i := (7*worker + step) % len(given)
+				if got := all(t, x, 1, given[i], given[0], field(4, num(1))); got != want[i] {
+					t.Errorf("message %d: %s, want %s", i, got, want[i])
+				}
+			}
+		})
+	}
+	group.Wait()
+}
+
+// TestR6First sees that a table or an index is asked ahead of messages.
+func TestR6First(t *testing.T) {
+	bad := msg(field(2), field(1))
+	refused(t, "an enum's index and a message that is not typed", em(), 0, bad, field(9))
+	x := em()
+	x.Types[1].Name = ""
+	refused(t, "a table that is not good and a message that is not typed", x, 1, bad, field(9))
+}
