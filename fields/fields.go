@@ -3,6 +3,7 @@ package fields
 
 import (
 	"math/bits"
+	"slices"
 
 	"cartouche/api"
 	"cartouche/scalar"
@@ -47,3 +48,11 @@ func TakesRow(f api.FieldType, kind int) bool {
 	isList := f.Label == api.Repeated || f.Label == api.Packed
 	return isList && scalar.Numeric(f.Kind) && kind == api.Chunk
 }
+
+// HasSymbol tells whether an enum has one with that number.
+func HasSymbol(x api.Type, number uint64) bool {
+	return slices.ContainsFunc(x.Symbols, func(s api.Symbol) bool { return uint64(s.Number) == number })
+}
+
+// IsDefault tells whether a typed value is its kind's default. What its kind does not use is empty, so that it need not be told; of a message it is never asked.
+func IsDefault(v api.Val) bool { return v.N == 0 && len(v.B) == 0 }

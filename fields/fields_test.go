@@ -71,3 +71,33 @@ func TestTakes(t *testing.T) {
 		}
 	}
 }
+
+func TestHasSymbol(t *testing.T) {
+	x := api.Type{Name: "E", Enum: true, Symbols: []api.Symbol{{Name: "A"}, {Name: "C", Number: 1<<31 - 1}, {Name: "B", Number: 5}}}
+	for _, n := range []uint64{0, 5, 1<<31 - 1} {
+		if !fields.HasSymbol(x, n) {
+			t.Errorf("%d is none", n)
+		}
+	}
+	for _, n := range []uint64{1, 4, 6, 1<<31 - 2, 1 << 31, 1 << 32, 1<<32 + 5, math.MaxUint64} {
+		if fields.HasSymbol(x, n) {
+			t.Errorf("%d is one", n)
+		}
+	}
+	if fields.HasSymbol(api.Type{}, 0) {
+		t.Error("0 is one of none")
+	}
+}
+
+func TestIsDefault(t *testing.T) {
+	for _, v := range []api.Val{{}, {B: []byte{}}, {M: []api.Msg{}}} {
+		if !fields.IsDefault(v) {
+			t.Errorf("%v is none", v)
+		}
+	}
+	for _, v := range []api.Val{{N: 1}, {N: 1 << 63}, {B: []byte{0}}, {N: 1, B: []byte("a")}} {
+		if fields.IsDefault(v) {
+			t.Errorf("%v is one", v)
+		}
+	}
+}

@@ -2,177 +2,16 @@ package model_test
 
 import (
 	"bytes"
-	"fmt"
 	"math"
-	"math/rand"
 	"slices"
 	"testing"
 	"unicode/utf8"
 
 	"cartouche/api"
 	"cartouche/model"
+	"cartouche/samples"
 	"cartouche/table"
 )
-
-// maker makes tables and messages by chance.
-type maker struct{ chance *rand.Rand }
-
-func newMaker(seed int64) *maker { return &maker{rand.New(rand.NewSource(seed))} }
-
-func pick[T any](m *maker, l ...T) T { return l[m.chance.Intn(len(l))] }
-
-// table tells a good table; its type 0 is a message.
-func (m *maker) table() api.Table {
-	t := tableOf(messageOf("M"))
-	for i := range 1 + m.chance.Intn(5) {
-		x := messageOf(fmt.Sprint("T", i))
-		if x.Enum = m.chance.Intn(3) == 0; x.Enum {
-			x.Symbols = []api.Symbol{{Name: "A"}, {Name: "B", Number: 1 + m.chance.Intn(3)}, {Name: "C", Number: 1<<31 - 1 - m.chance.Intn(2)}}[:1+m.chance.Intn(3)]
-		}
-		t.Types = append(t.Types, x)
-	}
-	for i := range t.Types {
-		number := 0
-		for range m.chance.Intn(9) {
-			if number += 1 + m.chance.Intn(2); !t.Types[i].Enum {
-				m.addField(t, &t.Types[i], number)
-			}
-		}
-	}
-	return t
-}
-
-func (m *maker) addField(t api.Table, x *api.Type, number int) {
-	f := api.FieldType{Name: fmt.Sprint("f", number), Number: number, Kind: 1 + m.chance.Intn(api.Message), Label: m.chance.Intn(api.Map + 1)}
-	if m.chance.Intn(3) == 0 || f.Kind >= api.Enum {
-		f.Ref = m.chance.Intn(len(t.Types))
-		if f.Kind = api.Message; t.Types[f.Ref].Enum {
-			f.Kind = api.Enum
-		}
-	}
-	isChunk := f.Kind == api.String || f.Kind == api.Bytes || f.Kind == api.Message
-	switch {
-	case f.Label == api.Plain && f.Kind == api.Message:
-		f.Label = api.Optional
-	case f.Label == api.Packed && isChunk:
-		f.Label = api.Repeated
-	case f.Label == api.Map:
-		f.Key = pick(m, api.Bool, api.Int32, api.Int64, api.Uint32, api.Uint64, api.Sint32, api.Sint64, api.Fixed32, api.Fixed64, api.Sfixed32, api.Sfixed64, api.String)
-	case f.Label == api.Member:
-		if len(x.Oneofs) == 0 || m.chance.Intn(3) == 0 {
-			x.Oneofs = append(x.Oneofs, fmt.Sprint("o", number))
-			f.Oneof = len(x.Oneofs) - 1
-		} else {
-			f.Oneof = m.chance.Intn(len(x.Oneofs))
-		}
-	}
-	x.Fields = append(x.Fields, f)
-}
-
-// message tells a typed message, of at most that depth as far as fields need no message.
-func (m *maker) message(t api.Table, index, depth int) api.Msg {
-	var out api.Msg
-	x := t.Types[index]
-	taken := map[int]bool{}
-	for _, f := range x.Fields {
-		if m.chance.Intn(3) == 0 || f.Kind == api.Message && depth == 0 || f.Label == api.Member && taken[f.Oneof] {
-			continue
-		}
-		taken[f.Oneof] = taken[f.Oneof] || f.Label == api.Member
-		out.Fields = append(out.Fields, m.field(t, f, depth))
-	}
-	for range m.chance.Intn(4) * m.chance.Intn(2) {
-		out.Unknown = append(out.Unknown, pick(m, varint(m.fieldNumber(), uint64(m.chance.Intn(9))), chunk(m.fieldNumber(), pick(m, "", "a")), api.Entry{Number: m.fieldNumber(), Kind: api.Fix32, N: 1<<32 - 1}, api.Entry{Number: m.fieldNumber(), Kind: api.Fix64, N: math.MaxUint64}))
-	}
-	return out
-}
-
-func (m *maker) fieldNumber() int { return pick(m, 1+m.chance.Intn(16), api.MaxNumber) }
-
-func (m *maker) field(t api.Table, f api.FieldType, depth int) api.Field {
-	count := 1
-	if f.Label == api.Repeated || f.Label == api.Packed || f.Label == api.Map {
-		count = m.chance.Intn(4)
-	}
-	out := api.Field{Number: f.Number}
-	for range count {
-		out.Vals = append(out.Vals, m.value(t, f.Kind, f.Ref, depth))
-	}
-	if f.Label == api.Map {
-		keys := rising(f.Key)
-		for len(keys) > count {
-			i := m.chance.Intn(len(keys))
-			keys = append(keys[:i:i], keys[i+1:]...)
-		}
-		out.Keys, out.Vals = keys, out.Vals[:len(keys)]
-	}
-	return out
-}
-
-func (m *maker) value(t api.Table, kind, ref, depth int) api.Val {
-	switch kind {
-	case api.Message:
-		return in(m.message(t, ref, depth-1))
-	case api.Enum:
-		return num(int64(pick(m, t.Types[ref].Symbols...).Number))
-	}
-	good, _ := values(kind)
-	return pick(m, good...)
-}
-
-// changed tells a message with one thing changed by chance.
-func (m *maker) changed(x api.Msg) api.Msg {
-	count := 0
-	see := func() { count++ }
-	c := copyOf(x)
-	touch{number: func(*int) { see() }, bits: func(*uint64) { see() }, bytes: func(*[]byte) { see() }, vals: func(*[]api.Val) { see() }, msgs: func(*[]api.Msg) { see() }, fields: func(*[]api.Field) { see() }, rest: func(*[]api.Entry) { see() }}.message(&c)
-	place, at := m.chance.Intn(count), 0
-	here := func() bool { at++; return at-1 == place }
-	way := m.chance.Intn(4)
-	touch{
-		number: func(n *int) {
-			if here() {
-				*n = pick(m, *n+1, *n-1, *n+2, 0, 1, 2, 3, 5, -1, api.MaxNumber, api.MaxNumber+1, math.MinInt, math.MaxInt)
-			}
-		},
-		bits: func(n *uint64) {
-			if here() {
-				*n = pick(m, 0, 1, 2, 3, *n+1, *n-1, *n^1<<31, *n^1<<32, 1<<31, 1<<31-1, 1<<32, math.MaxUint64, math.MaxUint64-(1<<31-1), math.MaxUint64-(1<<32-1))
-			}
-		},
-		bytes: func(b *[]byte) {
-			if here() {
-				*b = pick(m, nil, []byte("a"), []byte("\xff"), append(*b, 0), append([]byte("b"), *b...), []byte("\xc3\xa9"))
-			}
-		},
-		vals:   func(l *[]api.Val) { m.changeList(here(), way, l) },
-		msgs:   func(l *[]api.Msg) { changeIf(here(), way, l, api.Msg{}) },
-		fields: func(l *[]api.Field) { m.changeFields(here(), way, l) },
-		rest: func(l *[]api.Entry) {
-			changeIf(here(), way, l, api.Entry{Number: m.fieldNumber(), Kind: m.chance.Intn(6)})
-		},
-	}.message(&c)
-	return c
-}
-
-// changeList has two that change their places, too.
-func (m *maker) changeList(so bool, way int, l *[]api.Val) {
-	if so && len(*l) > 1 && m.chance.Intn(2) == 0 {
-		i := 1 + m.chance.Intn(len(*l)-1)
-		(*l)[i-1], (*l)[i] = (*l)[i], (*l)[i-1]
-		return
-	}
-	changeIf(so, way, l, pick(m, num(0), num(1), str("a"), in(msg())))
-}
-
-func (m *maker) changeFields(so bool, way int, l *[]api.Field) {
-	if so && len(*l) > 1 && m.chance.Intn(2) == 0 {
-		i := 1 + m.chance.Intn(len(*l)-1)
-		(*l)[i-1], (*l)[i] = (*l)[i], (*l)[i-1]
-		return
-	}
-	changeIf(so, way, l, field(m.fieldNumber(), pick(m, num(0), num(1), str("a"), in(msg()))))
-}
 
 // isTyped reads the chapter's words of a typed message a second time.
 func isTyped(t api.Table, index int, m api.Msg) bool {
@@ -275,17 +114,17 @@ func wantSettled(t api.Table, index int, m api.Msg) api.Msg {
 
 // TestAgain holds the calls against the chapter's words read a second time, over many messages.
 func TestAgain(t *testing.T) {
-	m := newMaker(81)
+	m := samples.New(81)
 	counts := [3]int{}
 	for range 1500 {
-		x := m.table()
+		x := m.Table()
 		if !table.Good(x) {
 			t.Fatalf("not good: %+v", x)
 		}
 		for range 8 {
-			a := m.message(x, 0, 3)
-			for range m.chance.Intn(3) {
-				a = m.changed(a)
+			a := m.Message(x, 0, 3)
+			for range m.Below(3) {
+				a = m.Changed(a)
 			}
 			want := other
 			if isTyped(x, 0, a) {
@@ -312,21 +151,21 @@ func TestAgain(t *testing.T) {
 
 // TestSetAgain puts fields by chance, some of another message, into messages.
 func TestSetAgain(t *testing.T) {
-	m := newMaker(82)
+	m := samples.New(82)
 	counts := map[api.Errno]int{}
 	for range 6000 {
-		x := m.table()
-		a, b := m.message(x, 0, 2), m.message(x, 0, 2)
-		if m.chance.Intn(4) == 0 {
-			a = m.changed(a)
+		x := m.Table()
+		a, b := m.Message(x, 0, 2), m.Message(x, 0, 2)
+		if m.Below(4) == 0 {
+			a = m.Changed(a)
 		}
-		if m.chance.Intn(3) == 0 {
-			b = m.changed(b)
+		if m.Below(3) == 0 {
+			b = m.Changed(b)
 		}
 		if len(b.Fields) == 0 {
 			continue
 		}
-		f := pick(m, b.Fields...)
+		f := samples.Pick(m, b.Fields...)
 		want, wantE := api.Msg{}, api.ErrType
 		if isTyped(x, 0, a) && isTyped(x, 0, msg(f)) {
 			want, wantE = wantSet(x, a, f), api.OK

@@ -7,6 +7,7 @@ import (
 
 	"cartouche/api"
 	"cartouche/model"
+	"cartouche/samples"
 )
 
 // rich is a plain message with something at each place where something can be, that no type has.
@@ -22,82 +23,6 @@ func rich() api.Msg {
 	}
 }
 
-// copyOf tells a message in memory of its own.
-func copyOf(m api.Msg) api.Msg {
-	vals := func(l []api.Val) []api.Val {
-		var out []api.Val
-		for _, v := range l {
-			w := api.Val{N: v.N, B: []byte(string(v.B))}
-			for _, m := range v.M {
-				w.M = append(w.M, copyOf(m))
-			}
-			out = append(out, w)
-		}
-		return out
-	}
-	var out api.Msg
-	for _, f := range m.Fields {
-		out.Fields = append(out.Fields, api.Field{Number: f.Number, Keys: vals(f.Keys), Vals: vals(f.Vals)})
-	}
-	for _, x := range m.Unknown {
-		x.B = []byte(string(x.B))
-		out.Unknown = append(out.Unknown, x)
-	}
-	return out
-}
-
-// touch does something at each place of a message: at each number, each byte, and each list.
-type touch struct {
-	number func(*int)
-	bits   func(*uint64)
-	bytes  func(*[]byte)
-	vals   func(*[]api.Val)
-	msgs   func(*[]api.Msg)
-	fields func(*[]api.Field)
-	rest   func(*[]api.Entry)
-}
-
-func (c touch) message(m *api.Msg) {
-	c.fields(&m.Fields)
-	c.rest(&m.Unknown)
-	for i := range m.Fields {
-		f := &m.Fields[i]
-		c.number(&f.Number)
-		c.values(&f.Keys)
-		c.values(&f.Vals)
-	}
-	for i := range m.Unknown {
-		x := &m.Unknown[i]
-		c.number(&x.Number)
-		c.number(&x.Kind)
-		c.bits(&x.N)
-		c.bytes(&x.B)
-	}
-}
-
-func (c touch) values(l *[]api.Val) {
-	c.vals(l)
-	for i := range *l {
-		v := &(*l)[i]
-		c.bits(&v.N)
-		c.bytes(&v.B)
-		c.msgs(&v.M)
-		for i := range v.M {
-			c.message(&v.M[i])
-		}
-	}
-}
-
-// listChanges are ways in which a list is made another one: one less, one more.
-func listChanges[T any](more T) []func(*[]T) {
-	return []func(*[]T){
-		func(l *[]T) { *l = append(slices.Clone(*l), more) },
-		func(l *[]T) { *l = append([]T{more}, *l...) },
-		func(l *[]T) { *l = (*l)[:max(0, len(*l)-1)] },
-		func(l *[]T) { *l = (*l)[min(1, len(*l)):] },
-	}
-}
-
 // changes tells a message with one thing changed, for each thing and each way to change it; a few are as they were.
 func changes(m api.Msg) []api.Msg {
 	var out []api.Msg
@@ -105,20 +30,20 @@ func changes(m api.Msg) []api.Msg {
 		for place := 0; ; place++ {
 			c, at := copyOf(m), 0
 			here := func() bool { at++; return at-1 == place }
-			touch{
-				number: func(n *int) {
+			samples.Touch{
+				Number: func(n *int) {
 					if here() {
 						*n = []int{*n + 1, *n - 1, -*n, *n ^ 1<<40}[way]
 					}
 				},
-				bits: func(n *uint64) {
+				Bits: func(n *uint64) {
 					if here() {
 						*n = []uint64{*n + 1, *n ^ 1<<63, *n ^ 1<<32, 0}[way]
 					}
 				},
-				bytes: func(b *[]byte) {
+				Bytes: func(b *[]byte) {
 					if here() {
-						listChanges(byte(7))[way](b)
+						samples.ListChanges(byte(7))[way](b)
 					}
 					for i := range *b {
 						if here() {
@@ -126,11 +51,11 @@ func changes(m api.Msg) []api.Msg {
 						}
 					}
 				},
-				vals:   func(l *[]api.Val) { changeIf(here(), way, l, api.Val{}) },
-				msgs:   func(l *[]api.Msg) { changeIf(here(), way, l, api.Msg{}) },
-				fields: func(l *[]api.Field) { changeIf(here(), way, l, api.Field{Number: 3}) },
-				rest:   func(l *[]api.Entry) { changeIf(here(), way, l, api.Entry{}) },
-			}.message(&c)
+				Vals:   func(l *[]api.Val) { changeIf(here(), way, l, api.Val{}) },
+				Msgs:   func(l *[]api.Msg) { changeIf(here(), way, l, api.Msg{}) },
+				Fields: func(l *[]api.Field) { changeIf(here(), way, l, api.Field{Number: 3}) },
+				Rest:   func(l *[]api.Entry) { changeIf(here(), way, l, api.Entry{}) },
+			}.Message(&c)
 			if place >= at {
 				break
 			}
@@ -142,26 +67,7 @@ func changes(m api.Msg) []api.Msg {
 
 func changeIf[T any](so bool, way int, l *[]T, more T) {
 	if so {
-		listChanges(more)[way](l)
-	}
-}
-
-// emptied tells the same message with empty lists for those that are nil, and nil for those that are empty.
-func emptied(m api.Msg) api.Msg {
-	out := copyOf(m)
-	touch{
-		number: func(*int) {}, bits: func(*uint64) {},
-		bytes: turnEmpty[byte], vals: turnEmpty[api.Val], msgs: turnEmpty[api.Msg], fields: turnEmpty[api.Field], rest: turnEmpty[api.Entry],
-	}.message(&out)
-	return out
-}
-
-func turnEmpty[T any](l *[]T) {
-	switch {
-	case *l == nil:
-		*l = make([]T, 0, 3)
-	case len(*l) == 0:
-		*l = nil
+		samples.ListChanges(more)[way](l)
 	}
 }
 
@@ -215,15 +121,14 @@ func TestP8_1Copy(t *testing.T) {
 		if !model.Equal(c, m) || !model.Equal(m, c) {
 			t.Errorf("Copy of %s is not equal to it", shortly(m))
 		}
-		touch{
-			number: func(n *int) { *n += 100 }, bits: func(n *uint64) { *n ^= 1 << 40 },
-			bytes: func(b *[]byte) {
+		samples.Touch{
+			Number: func(n *int) { *n += 100 }, Bits: func(n *uint64) { *n ^= 1 << 40 },
+			Bytes: func(b *[]byte) {
 				for i := range *b {
 					(*b)[i]++
 				}
 			},
-			vals: func(*[]api.Val) {}, msgs: func(*[]api.Msg) {}, fields: func(*[]api.Field) {}, rest: func(*[]api.Entry) {},
-		}.message(&c)
+		}.Message(&c)
 		if told(m) != before {
 			t.Errorf("Copy shares memory with %s", before)
 		}

@@ -6,16 +6,17 @@ import (
 
 	"cartouche/api"
 	"cartouche/model"
+	"cartouche/samples"
 )
 
 // TestP8_4Settled: a normal message is typed; Settle tells a normal one, of a normal one it, and of what it told that; it makes nothing deeper.
 func TestP8_4Settled(t *testing.T) {
-	m := newMaker(84)
+	m := samples.New(84)
 	for range 5000 {
-		x := m.table()
-		a := m.message(x, 0, 4)
-		for range m.chance.Intn(2) {
-			a = m.changed(a)
+		x := m.Table()
+		a := m.Message(x, 0, 4)
+		for range m.Below(2) {
+			a = m.Changed(a)
 		}
 		isTyped, _ := model.Typed(x, 0, a)
 		isNormal, _ := model.Normal(x, 0, a)
@@ -46,13 +47,13 @@ func TestP8_4Settled(t *testing.T) {
 }
 
 func TestP8_4Equal(t *testing.T) {
-	m := newMaker(85)
+	m := samples.New(85)
 	for range 300 {
-		x := m.table()
+		x := m.Table()
 		var l []api.Msg
 		for range 3 {
-			a := m.message(x, 0, 2)
-			l = append(l, a, model.Copy(a), emptied(a), m.changed(a))
+			a := m.Message(x, 0, 2)
+			l = append(l, a, model.Copy(a), emptied(a), m.Changed(a))
 		}
 		for _, a := range l {
 			if !model.Equal(a, a) {
@@ -74,11 +75,11 @@ func TestP8_4Equal(t *testing.T) {
 
 // TestP8_4Set: Get of what Set told is the field; Clear of it is as if it had been cleared ahead, but for other members.
 func TestP8_4Set(t *testing.T) {
-	m := newMaker(86)
+	m := samples.New(86)
 	sets := 0
 	for range 4000 {
-		x := m.table()
-		a, b := m.message(x, 0, 3), m.message(x, 0, 3)
+		x := m.Table()
+		a, b := m.Message(x, 0, 3), m.Message(x, 0, 3)
 		for _, f := range b.Fields {
 			got, e := model.Set(x, 0, a, f)
 			if e != api.OK {

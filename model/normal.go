@@ -23,15 +23,12 @@ func isTold(x api.Type, f api.Field) bool {
 	own, _ := fields.Find(x.Fields, f.Number)
 	switch own.Label {
 	case api.Plain:
-		return !isDefault(f.Vals[0])
+		return !fields.IsDefault(f.Vals[0])
 	case api.Repeated, api.Packed, api.Map:
 		return len(f.Vals) > 0
 	}
 	return true
 }
-
-// isDefault tells it of a scalar kind's value, whichever it is: what the kind does not use is empty.
-func isDefault(v api.Val) bool { return v.N == 0 && len(v.B) == 0 }
 
 func isTaken(x api.Type, e api.Entry) bool {
 	own, ok := fields.Find(x.Fields, e.Number)

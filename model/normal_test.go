@@ -5,6 +5,7 @@ import (
 	"testing"
 
 	"cartouche/api"
+	"cartouche/samples"
 )
 
 // TestP8_1Defaults has the default of each kind: it is not told in a Plain field, and told in all others.
@@ -34,20 +35,9 @@ func TestP8_1NoughtsBelow(t *testing.T) {
 // TestP8_1Taken has an entry of each wire kind, of the number of a field of each kind and label.
 func TestP8_1Taken(t *testing.T) {
 	wireKinds := []int{api.Varint, api.Fix64, api.Chunk, api.Fix32}
-	own := func(kind int) int {
-		switch kind {
-		case api.String, api.Bytes, api.Message:
-			return api.Chunk
-		case api.Fixed32, api.Sfixed32, api.Float:
-			return api.Fix32
-		case api.Fixed64, api.Sfixed64, api.Double:
-			return api.Fix64
-		}
-		return api.Varint
-	}
 	for kind := api.Bool; kind <= api.Message; kind++ {
 		for label := api.Plain; label <= api.Map; label++ {
-			if label == api.Plain && kind == api.Message || label == api.Packed && own(kind) == api.Chunk {
+			if !samples.CanBe(kind, label) {
 				continue
 			}
 			key := 0
@@ -57,7 +47,7 @@ func TestP8_1Taken(t *testing.T) {
 			for _, w := range wireKinds {
 				want := normal
 				switch {
-				case label == api.Map && w == api.Chunk, label != api.Map && w == own(kind):
+				case label == api.Map && w == api.Chunk, label != api.Map && w == samples.Wire(kind):
 					want = typed
 				case w == api.Chunk && (label == api.Repeated || label == api.Packed):
 					want = typed

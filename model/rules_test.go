@@ -1,17 +1,16 @@
 package model_test
 
 import (
-	"cmp"
 	"fmt"
 	"math"
 	"slices"
 	"strings"
 	"sync"
 	"testing"
-	"unsafe"
 
 	"cartouche/api"
 	"cartouche/model"
+	"cartouche/samples"
 )
 
 // all asks each call, and tells all answers; beside an error or a false each answer must be zero.
@@ -33,66 +32,23 @@ func all(t *testing.T, x api.Table, index int, a, b api.Msg, f api.Field) string
 	return fmt.Sprint(isTyped, e1, isNormal, e2, told(with), e3, told(settled), e4, told(msg(got)), ok, model.Equal(a, b), told(model.Copy(a)), model.Depth(a), told(model.Clear(a, f.Number)))
 }
 
-// wild tells a plain message in which anything may stand anywhere.
-func (m *maker) wild(depth int) api.Msg {
-	number := func() int {
-		return pick(m, m.chance.Intn(12), m.chance.Intn(6), -1, api.MaxNumber, api.MaxNumber+1, math.MinInt, math.MaxInt)
-	}
-	bits := func() uint64 { return pick[uint64](m, 0, 1, 5, 1<<31, 1<<32, math.MaxUint64) }
-	some := func() []byte { return pick(m, nil, nil, []byte{}, []byte("a"), []byte("\xff")) }
-	vals := func() []api.Val {
-		var l []api.Val
-		for range m.chance.Intn(3) {
-			v := api.Val{N: bits(), B: some()}
-			for range m.chance.Intn(3) * min(depth, 1) {
-				v.M = append(v.M, m.wild(depth-1))
-			}
-			l = append(l, v)
-		}
-		return l
-	}
-	var out api.Msg
-	for range m.chance.Intn(4) {
-		out.Fields = append(out.Fields, api.Field{Number: number(), Keys: vals(), Vals: vals()})
-		out.Unknown = append(out.Unknown, api.Entry{Number: number(), Kind: number(), N: bits(), B: some()})
-	}
-	return out
-}
-
-// spoiled tells a table with one number changed, so that it may not be good.
-func (m *maker) spoiled(t api.Table) api.Table {
-	i := m.chance.Intn(len(t.Types))
-	x := &t.Types[i]
-	n := pick(m, 0, 1, 2, 5, 17, 18, -1, api.MaxNumber+1, math.MinInt, math.MaxInt)
-	switch {
-	case m.chance.Intn(4) == 0:
-		x.Enum = !x.Enum
-	case len(x.Symbols) > 0:
-		x.Symbols[m.chance.Intn(len(x.Symbols))].Number = n
-	case len(x.Fields) > 0:
-		f := &x.Fields[m.chance.Intn(len(x.Fields))]
-		*pick(m, &f.Number, &f.Kind, &f.Ref, &f.Label, &f.Oneof, &f.Key) = n
-	}
-	return t
-}
-
 // TestR1R2 has tables that are not good, any index and number, and messages of any sort: none panics.
 func TestR1R2(t *testing.T) {
-	m := newMaker(87)
+	m := samples.New(87)
 	for range 4000 {
-		x := m.table()
-		if m.chance.Intn(2) == 0 {
-			x = m.spoiled(x)
+		x := m.Table()
+		if m.Below(2) == 0 {
+			x = m.Spoiled(x)
 		}
-		a, b := m.wild(3), m.wild(1)
-		if m.chance.Intn(3) == 0 {
-			a = m.changed(m.message(m.table(), 0, 2))
+		a, b := m.Wild(3), m.Wild(1)
+		if m.Below(3) == 0 {
+			a = m.Changed(m.Message(m.Table(), 0, 2))
 		}
-		f := field(m.fieldNumber())
+		f := field(m.FieldNumber())
 		if len(b.Fields) > 0 {
 			f = b.Fields[0]
 		}
-		all(t, x, pick(m, m.chance.Intn(len(x.Types)+2)-1, 0, 0, math.MinInt, math.MaxInt), a, b, f)
+		all(t, x, samples.Pick(m, m.Below(len(x.Types)+2)-1, 0, 0, math.MinInt, math.MaxInt), a, b, f)
 	}
 }
 
@@ -140,60 +96,14 @@ func TestR1Big(t *testing.T) {
 	lookAt(t, em(), 1, unknown(chunk(9, strings.Repeat("a", many))), normal)
 }
 
-// full tells the greatest table that is good.
-func full() api.Table {
-	var t api.Table
-	for i := range api.MaxTypes {
-		x := messageOf(fmt.Sprint("M", i))
-		for j := range api.MaxFields {
-			x.Fields = append(x.Fields, api.FieldType{Name: fmt.Sprint("f", j), Number: j + 1, Kind: api.Int32})
-		}
-		t.Types = append(t.Types, x)
-	}
-	return t
-}
-
-// withRoom tells a message whose lists have spare room, with something in it.
-func withRoom(m api.Msg) api.Msg {
-	out := copyOf(m)
-	touch{
-		number: func(*int) {}, bits: func(*uint64) {},
-		bytes: func(l *[]byte) { roomy(l, 7) }, vals: func(l *[]api.Val) { roomy(l, num(7)) }, msgs: func(l *[]api.Msg) { roomy(l, msg(field(7))) },
-		fields: func(l *[]api.Field) { roomy(l, field(7, num(7))) }, rest: func(l *[]api.Entry) { roomy(l, chunk(7, "a")) },
-	}.message(&out)
-	return out
-}
-
-func roomy[T any](l *[]T, with T) {
-	count := len(*l)
-	for range 3 {
-		*l = append(*l, with)
-	}
-	*l = (*l)[:count]
-}
-
-// wholly tells all that stands in a message's memory, spare room too.
-func wholly(m api.Msg) string {
-	var b strings.Builder
-	c := m
-	touch{
-		number: func(n *int) { fmt.Fprint(&b, *n, " ") }, bits: func(n *uint64) { fmt.Fprint(&b, *n, " ") },
-		bytes: func(l *[]byte) { tell(&b, *l) }, vals: func(l *[]api.Val) { tell(&b, *l) }, msgs: func(l *[]api.Msg) { tell(&b, *l) },
-		fields: func(l *[]api.Field) { tell(&b, *l) }, rest: func(l *[]api.Entry) { tell(&b, *l) },
-	}.message(&c)
-	return b.String()
-}
-
-func tell[T any](b *strings.Builder, l []T) { fmt.Fprintf(b, "%d %d %v; ", len(l), cap(l), l[:cap(l)]) }
-
 func TestR4Arguments(t *testing.T) {
-	m := newMaker(88)
+	m := samples.New(88)
 	for range 600 {
-		x := m.table()
-		a, b := withRoom(m.message(x, 0, 2)), withRoom(m.wild(2))
+		x := m.Table()
+		a, b := withRoom(m.Message(x, 0, 2)), withRoom(m.Wild(2))
 		f := field(1)
-		if other := withRoom(m.message(x, 0, 2)); len(other.Fields) > 0 {
-			f = pick(m, other.Fields...)
+		if other := withRoom(m.Message(x, 0, 2)); len(other.Fields) > 0 {
+			f = samples.Pick(m, other.Fields...)
 		}
 		types := fmt.Sprintf("%+v", x)
 		before := []string{wholly(a), wholly(b), wholly(msg(f))}
@@ -201,54 +111,6 @@ func TestR4Arguments(t *testing.T) {
 		all(t, x, 0, b, a, f)
 		if after := []string{wholly(a), wholly(b), wholly(msg(f))}; !slices.Equal(before, after) || fmt.Sprintf("%+v", x) != types {
 			t.Errorf("changed: %v, was %v", after, before)
-		}
-	}
-}
-
-// stretch is memory: from its first byte to the one behind its last; of an answer (own) or of what was handed in.
-type stretch struct {
-	from, to uintptr
-	own      bool
-}
-
-// stretches tells the memory of each list of a message, spare room too.
-func stretches(m api.Msg, own bool) []stretch {
-	var out []stretch
-	c := m
-	touch{
-		number: func(*int) {}, bits: func(*uint64) {},
-		bytes: func(l *[]byte) { addStretch(&out, *l, own) }, vals: func(l *[]api.Val) { addStretch(&out, *l, own) }, msgs: func(l *[]api.Msg) { addStretch(&out, *l, own) },
-		fields: func(l *[]api.Field) { addStretch(&out, *l, own) }, rest: func(l *[]api.Entry) { addStretch(&out, *l, own) },
-	}.message(&c)
-	return out
-}
-
-func addStretch[T any](out *[]stretch, l []T, own bool) {
-	var one T
-	if cap(l) > 0 {
-		from := uintptr(unsafe.Pointer(unsafe.SliceData(l)))
-		*out = append(*out, stretch{from, from + uintptr(cap(l))*unsafe.Sizeof(one), own})
-	}
-}
-
-// lookAtMemory sees that no two lists of an answer share memory, and none with what was handed in.
-func lookAtMemory(t *testing.T, what string, answer api.Msg, given ...api.Msg) {
-	t.Helper()
-	l := stretches(answer, true)
-	for _, m := range given {
-		l = append(l, stretches(m, false)...)
-	}
-	slices.SortFunc(l, func(a, b stretch) int { return cmp.Compare(a.from, b.from) })
-	var ownEnd, otherEnd uintptr
-	for _, x := range l {
-		if x.from < ownEnd || x.own && x.from < otherEnd {
-			t.Errorf("%s: %s shares memory", what, told(answer))
-			return
-		}
-		if x.own {
-			ownEnd = max(ownEnd, x.to)
-		} else {
-			otherEnd = max(otherEnd, x.to)
 		}
 	}
 }
@@ -264,6 +126,13 @@ func sharing() (m api.Msg, f api.Field) {
 		{Number: 9, Keys: []api.Val{{B: some[:1]}, {B: some}}, Vals: []api.Val{{M: low}, {M: low}}}, {Number: 13, Vals: vals}, {Number: api.MaxNumber, Vals: []api.Val{{B: some}}},
 	}, Unknown: []api.Entry{{Number: 20, Kind: api.Chunk, B: some}, {Number: 20, Kind: api.Chunk, B: some}}}
 	return m, api.Field{Number: 8, Vals: m.Fields[2].Vals}
+}
+
+func lookAtMemory(t *testing.T, what string, answer api.Msg, given ...api.Msg) {
+	t.Helper()
+	if samples.Shares(answer, given...) {
+		t.Errorf("%s: %s shares memory", what, told(answer))
+	}
 }
 
 func TestR4AnswersAreNew(t *testing.T) {
@@ -288,16 +157,16 @@ func TestR4AnswersAreNew(t *testing.T) {
 	}
 	look(wide(), a, f)
 	look(wide(), a, a.Fields[0])
-	m := newMaker(89)
+	m := samples.New(89)
 	for range 600 {
-		a, b := m.message(wide(), 1, 3), m.message(wide(), 1, 2)
-		if m.chance.Intn(4) == 0 {
-			a = m.wild(3)
+		a, b := m.Message(wide(), 1, 3), m.Message(wide(), 1, 2)
+		if m.Below(4) == 0 {
+			a = m.Wild(3)
 		}
-		a = withRoom(pick(m, a, emptied(a)))
+		a = withRoom(samples.Pick(m, a, emptied(a)))
 		f := field(3, num(0))
 		if len(b.Fields) > 0 {
-			f = pick(m, b.Fields...)
+			f = samples.Pick(m, b.Fields...)
 		}
 		look(wide(), a, withRoom(msg(f)).Fields[0])
 		if len(a.Fields) > 0 {
@@ -308,12 +177,12 @@ func TestR4AnswersAreNew(t *testing.T) {
 
 // TestR4EmptyLists sees that nil and an empty list are one.
 func TestR4EmptyLists(t *testing.T) {
-	m := newMaker(90)
+	m := samples.New(90)
 	for range 2000 {
-		x := m.table()
-		a, b := m.changed(m.message(x, 0, 2)), m.wild(2)
+		x := m.Table()
+		a, b := m.Changed(m.Message(x, 0, 2)), m.Wild(2)
 		f := field(1)
-		if other := m.message(x, 0, 2); len(other.Fields) > 0 {
+		if other := m.Message(x, 0, 2); len(other.Fields) > 0 {
 			f = other.Fields[0]
 		}
 		g := emptied(msg(f)).Fields[0]
@@ -325,12 +194,12 @@ func TestR4EmptyLists(t *testing.T) {
 
 // TestR5Many asks from many goroutines at a time, of one table and one message.
 func TestR5Many(t *testing.T) {
-	m := newMaker(91)
+	m := samples.New(91)
 	x := wide()
 	var given []api.Msg
 	var want []string
 	for range 30 {
-		a := m.message(x, 1, 3)
+		a := m.Message(x, 1, 3)
 		given = append(given, a)
 		want = append(want, all(t, x, 1, a, given[0], field(4, num(1))))
 	}

@@ -1,8 +1,6 @@
 package model
 
 import (
-	"slices"
-
 	"cartouche/api"
 	"cartouche/fields"
 	"cartouche/quote"
@@ -93,8 +91,7 @@ func (r rules) valIsTyped(own api.FieldType, v api.Val) bool {
 	case api.Message:
 		return v.N == 0 && len(v.B) == 0 && len(v.M) == 1
 	case api.Enum:
-		isIt := func(s api.Symbol) bool { return uint64(s.Number) == v.N }
-		return scalar.Fits(api.Enum, v) && slices.ContainsFunc(r.types[own.Ref].Symbols, isIt)
+		return scalar.Fits(api.Enum, v) && fields.HasSymbol(r.types[own.Ref], v.N)
 	}
 	return isScalar(own.Kind, v)
 }

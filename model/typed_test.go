@@ -8,6 +8,7 @@ import (
 
 	"cartouche/api"
 	"cartouche/model"
+	"cartouche/samples"
 )
 
 func TestP8_1Examples(t *testing.T) {
@@ -68,98 +69,13 @@ func TestErrArgOfIndices(t *testing.T) {
 }
 
 func TestErrArgOfTables(t *testing.T) {
-	type change = func(x *api.Table)
-	for what, c := range map[string]change{
-		"a name that is none":         func(x *api.Table) { x.Types[1].Name = "1" },
-		"a name twice":                func(x *api.Table) { x.Types[1].Name = "E" },
-		"a kind below":                func(x *api.Table) { x.Types[1].Fields[0].Kind = 0 },
-		"a kind above":                func(x *api.Table) { x.Types[1].Fields[0].Kind = api.Message + 1 },
-		"a kind far off":              func(x *api.Table) { x.Types[1].Fields[0].Kind = math.MinInt },
-		"a label above":               func(x *api.Table) { x.Types[1].Fields[0].Label = api.Map + 1 },
-		"a label below":               func(x *api.Table) { x.Types[1].Fields[0].Label = -1 },
-		"a Ref above":                 func(x *api.Table) { x.Types[1].Fields[2].Ref = 2 },
-		"a Ref below":                 func(x *api.Table) { x.Types[1].Fields[2].Ref = -1 },
-		"a Ref of the other sort":     func(x *api.Table) { x.Types[1].Fields[2].Ref = 0 },
-		"a Ref of a number":           func(x *api.Table) { x.Types[1].Fields[0].Ref = 1 },
-		"a oneof that is none":        func(x *api.Table) { x.Types[1].Fields[0].Label = api.Member },
-		"a oneof far off":             func(x *api.Table) { x.Types[1].Fields[0].Label, x.Types[1].Fields[0].Oneof = api.Member, 1000 },
-		"a oneof without members":     func(x *api.Table) { x.Types[1].Oneofs = []string{"o"} },
-		"a key that is none":          func(x *api.Table) { x.Types[1].Fields[0].Label, x.Types[1].Fields[0].Key = api.Map, api.Float },
-		"a key without a map":         func(x *api.Table) { x.Types[1].Fields[0].Key = api.Bool },
-		"numbers that do not rise":    func(x *api.Table) { x.Types[1].Fields[0].Number = 2 },
-		"the number 0":                func(x *api.Table) { x.Types[1].Fields[0].Number = 0 },
-		"an enum without symbols":     func(x *api.Table) { x.Types[0].Symbols = nil },
-		"a fault in a type elsewhere": func(x *api.Table) { x.Types = append(x.Types, api.Type{Name: "N", Enum: true}) },
-		"too many types": func(x *api.Table) {
-			for i := range api.MaxTypes {
-				x.Types = append(x.Types, messageOf(fmt.Sprint("N", i)))
-			}
-		},
-	} {
-		x := em()
-		c(&x)
+	for _, x := range samples.WrongTables() {
 		for _, m := range messagesBeside() {
-			for index := -1; index < len(x.Types)+1; index++ {
-				refused(t, what, x, index, m, field(1, num(1)))
+			for index := -1; index < len(x.Table.Types)+1; index++ {
+				refused(t, x.What, x.Table, index, m, field(1, num(1)))
 			}
 		}
 	}
-}
-
-// In the tables that single tells: the type of messages within (its field 1 is an Int32, Plain), the type that is asked, and its field's number.
-const (
-	inner  = 1
-	around = 2
-	number = 7
-)
-
-// single tells a table in which the type around has a field of that kind and label alone.
-func single(kind, label, key int) api.Table {
-	f := api.FieldType{Name: "f", Number: number, Kind: kind, Label: label, Key: key}
-	x := messageOf("T", f)
-	if kind == api.Message {
-		x.Fields[0].Ref = inner
-	}
-	if label == api.Member {
-		x.Oneofs = []string{"o"}
-	}
-	return tableOf(symbolsType(), messageOf("I", api.FieldType{Name: "x", Number: 1, Kind: api.Int32}), x)
-}
-
-// values tells values of a kind: typed ones (the default first, those of numbers rising), and others.
-func values(kind int) (good, bad []api.Val) {
-	const low, high = -1 << 31, 1<<31 - 1
-	top := api.Val{N: math.MaxUint64}
-	switch kind {
-	case api.Bool:
-		good, bad = []api.Val{num(0), num(1)}, []api.Val{num(2), num(256), num(1 << 32), top}
-	case api.Int32, api.Sint32, api.Sfixed32:
-		good, bad = []api.Val{num(0), num(low), num(-1), num(1), num(high)}, []api.Val{num(high + 1), num(low - 1), num(1<<32 - 1), num(math.MaxInt64), num(math.MinInt64)}
-	case api.Int64, api.Sint64, api.Sfixed64:
-		good = []api.Val{num(0), num(math.MinInt64), num(-1), num(1), num(math.MaxInt64)}
-	case api.Uint32, api.Fixed32, api.Float:
-		good, bad = []api.Val{num(0), num(1), num(1 << 31), num(1<<32 - 1)}, []api.Val{num(1 << 32), num(-1), num(math.MinInt64)}
-	case api.Uint64, api.Fixed64, api.Double:
-		good = []api.Val{num(0), num(1), num(1 << 63 >> 1), num(math.MinInt64), top}
-	case api.Enum:
-		good, bad = []api.Val{num(0), num(5), num(high)}, []api.Val{num(1), num(4), num(6), num(high - 1), num(high + 1), num(1 << 32), num(1<<32 + 5), num(-1), num(low)}
-	case api.String:
-		good = []api.Val{str(""), str("\x00"), str("a"), str("ab"), str("b"), str("\u00e9\ufffd"), str("\U0010ffff")}
-		bad = []api.Val{str("\xff"), str("a\xc3"), str("\xed\xa0\x80"), str("\xc0\x80"), str("\xf4\x90\x80\x80"), {N: 1}, {N: 1, B: []byte("a")}}
-	case api.Bytes:
-		good, bad = []api.Val{str(""), str("\x00"), str("a"), str("\xff"), str("\xed\xa0\x80")}, []api.Val{{N: 1}, {N: 1 << 63, B: []byte("a")}}
-	case api.Message:
-		five := msg(field(1, num(5)))
-		good = []api.Val{in(msg()), in(five), {B: []byte{}, M: []api.Msg{unknown(varint(9, 1))}}}
-		bad = []api.Val{{}, {M: []api.Msg{}}, in(five, five), in(msg(), msg()), {N: 1, M: []api.Msg{five}}, {B: []byte{0}, M: []api.Msg{five}}, in(msg(field(1, num(1<<31)))), in(msg(field(2, num(1)))), in(unknown(varint(0, 0))), in(msg(field(1, in(msg())))), num(0), num(7), str("a")}
-	}
-	if kind < api.String || kind == api.Enum {
-		bad = append(bad, api.Val{B: []byte{0}}, api.Val{N: 1, B: []byte("a")})
-	}
-	if kind != api.Message {
-		bad = append(bad, in(msg()), api.Val{M: []api.Msg{{}, {}}}, api.Val{N: 1, M: []api.Msg{{}}})
-	}
-	return good, bad
 }
 
 // TestP8_1Single has one value of each kind in fields of each label that has just one.
@@ -217,15 +133,6 @@ func TestP8_1Lists(t *testing.T) {
 			}
 		}
 	}
-}
-
-// rising tells typed keys of a kind in order.
-func rising(kind int) []api.Val {
-	good, _ := values(kind)
-	if good[1].N > math.MaxInt64 { // a signed kind: 0 stands ahead of those below it
-		good = append(good[1:3:3], append([]api.Val{good[0]}, good[3:]...)...)
-	}
-	return good
 }
 
 // TestP8_1Keys has keys of each kind, with values of a kind.

@@ -9,6 +9,7 @@ import (
 	"testing"
 
 	"cartouche/api"
+	"cartouche/samples"
 	"cartouche/table"
 )
 
@@ -339,7 +340,7 @@ func TestP7_2Chance(t *testing.T) {
 				case i >= 0 && y.Fields[i].Label == api.Map:
 					want = table.Value
 				case i >= 0:
-					kind, want = wireOf(y.Fields[i].Kind), table.Value
+					kind, want = samples.Wire(y.Fields[i].Kind), table.Value
 				}
 				if got, e3 := table.Takes(x, index, n, kind); got != want || (e3 == api.ErrArg) != y.Enum {
 					t.Errorf("Takes(%+v, %d, %d, %d): %d, error %d, want %d", x, index, n, kind, got, e3, want)
@@ -352,16 +353,4 @@ func TestP7_2Chance(t *testing.T) {
 			lookAt(t, y.Name, find(x, y.Name), answer{number: index})
 		}
 	}
-}
-
-func wireOf(kind int) int {
-	switch kind {
-	case api.Fixed32, api.Sfixed32, api.Float:
-		return api.Fix32
-	case api.Fixed64, api.Sfixed64, api.Double:
-		return api.Fix64
-	case api.String, api.Bytes, api.Message:
-		return api.Chunk
-	}
-	return api.Varint
 }

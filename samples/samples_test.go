@@ -1,0 +1,116 @@
+package samples_test
+
+import (
+	"slices"
+	"testing"
+
+	"cartouche/api"
+	"cartouche/model"
+	"cartouche/samples"
+	"cartouche/table"
+)
+
+func TestTables(t *testing.T) {
+	for i, x := range []api.Table{samples.Small(), samples.Wide(), samples.Full()} {
+		if !table.Good(x) {
+			t.Errorf("table %d is not good", i)
+		}
+	}
+	for _, x := range samples.WrongTables() {
+		if table.Good(x.Table) {
+			t.Errorf("%s: good", x.What)
+		}
+	}
+	m := samples.New(1)
+	for range 2000 {
+		if x := m.Table(); !table.Good(x) || x.Types[0].Enum {
+			t.Fatalf("not good: %+v", x)
+		}
+	}
+}
+
+// TestSingle sees that there is a good table for each kind and label that can be, and that values are what they are said to be.
+func TestSingle(t *testing.T) {
+	for kind := api.Bool; kind <= api.Message; kind++ {
+		good, bad := samples.Values(kind)
+		for label := api.Plain; label <= api.Map; label++ {
+			key := 0
+			if label == api.Map {
+				key = api.Bool
+			}
+			x := samples.Single(kind, label, key)
+			if table.Good(x) != samples.CanBe(kind, label) {
+				t.Errorf("kind %d, label %d: good %v", kind, label, table.Good(x))
+			}
+		}
+		x := samples.Single(kind, api.Optional, 0)
+		for i, v := range append(slices.Clone(good), bad...) {
+			if ok, e := model.Typed(x, samples.Around, samples.Msg(samples.Field(samples.Number, v))); e != api.OK || ok != (i < len(good)) {
+				t.Errorf("kind %d, value %d: typed %v, error %d", kind, i, ok, e)
+			}
+		}
+	}
+	for _, kind := range samples.KeyKinds() {
+		x := samples.Single(api.Bool, api.Map, kind)
+		keys := samples.Rising(kind)
+		f := api.Field{Number: samples.Number, Keys: keys, Vals: make([]api.Val, len(keys))}
+		if ok, e := model.Typed(x, samples.Around, samples.Msg(f)); !ok || e != api.OK {
+			t.Errorf("keys of kind %d do not rise", kind)
+		}
+	}
+}
+
+func TestMessages(t *testing.T) {
+	m := samples.New(2)
+	for range 1000 {
+		x := m.Table()
+		a := m.Message(x, 0, 3)
+		if ok, e := model.Typed(x, 0, a); !ok || e != api.OK || model.Depth(a) > 4 {
+			t.Errorf("%s: typed %v, error %d", samples.Told(a), ok, e)
+		}
+	}
+	if a, b := samples.New(3).Message(samples.Wide(), 1, 3), samples.New(3).Message(samples.Wide(), 1, 3); samples.Told(a) != samples.Told(b) {
+		t.Error("of one seed two messages")
+	}
+}
+
+// TestCopies sees that what is told as a copy is the same, and has memory of its own.
+func TestCopies(t *testing.T) {
+	m := samples.New(4)
+	for range 1000 {
+		a := m.Wild(3)
+		for i, b := range []api.Msg{samples.Copy(a), samples.Emptied(a), samples.WithRoom(a)} {
+			if !model.Equal(a, b) || samples.Told(a) != samples.Told(b) || samples.Shares(b, a) {
+				t.Errorf("copy %d of %s: %s", i, samples.Told(a), samples.Told(b))
+			}
+		}
+		if samples.Wholly(a) == samples.Wholly(samples.WithRoom(a)) {
+			t.Errorf("%s: spare room is not told", samples.Told(a))
+		}
+	}
+}
+
+func TestShares(t *testing.T) {
+	some := []byte("abc")
+	one := []api.Val{{B: some}}
+	in := samples.In(samples.Msg())
+	for i, row := range []struct {
+		answer api.Msg
+		given  []api.Msg
+		want   bool
+	}{
+		{samples.Msg(), nil, false},
+		{samples.Msg(samples.Field(1, api.Val{B: some})), nil, false},
+		{samples.Msg(samples.Field(1, api.Val{B: some}, api.Val{B: some})), nil, true},
+		{samples.Msg(samples.Field(1, api.Val{B: some[:1:1]}, api.Val{B: some[1:]})), nil, false},
+		{samples.Msg(samples.Field(1, api.Val{B: some[:1]}, api.Val{B: some[2:]})), nil, true}, // by spare room
+		{samples.Msg(api.Field{Keys: one, Vals: one}), nil, true},
+		{samples.Msg(samples.Field(1, in, in)), nil, true},
+		{samples.Msg(samples.Field(1, api.Val{B: some[2:]})), []api.Msg{samples.Unknown(api.Entry{B: some})}, true},
+		{samples.Msg(), []api.Msg{samples.Msg(samples.Field(1, in, in))}, false},
+	} {
+		if samples.Shares(row.answer, row.given...) != row.want {
+			t.Errorf("row %d: %v", i, !row.want)
+		}
+	}
+}
