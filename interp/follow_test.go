@@ -2,15 +2,12 @@ package interp_test
 
 import (
 	"bytes"
-	"slices"
 	"testing"
 
 	"cartouche/api"
 	"cartouche/interp"
 	"cartouche/model"
 	"cartouche/samples"
-	"cartouche/scalar"
-	"cartouche/table"
 )
 
 func TestP9_3Entries(t *testing.T) {
@@ -93,46 +90,6 @@ func TestP9_4Back(t *testing.T) {
 	}
 }
 
-// merged reads chapter 10's words of the merge, for what is told of bytes one behind the other.
-func merged(t api.Table, index int, a, b api.Msg) api.Msg {
-	out := samples.Copy(a)
-	for _, f := range b.Fields {
-		x, _ := table.Field(t, index, f.Number)
-		was, isThere := model.Get(out, f.Number)
-		switch {
-		case x.Label == api.Optional && x.Kind == api.Message && isThere:
-			f = field(f.Number, in(merged(t, x.Ref, was.Vals[0].M[0], f.Vals[0].M[0])))
-		case x.Label == api.Repeated || x.Label == api.Packed:
-			f = field(f.Number, append(was.Vals, f.Vals...)...)
-		case x.Label == api.Map:
-			f = mergedMap(x, was, f)
-		case x.Label == api.Member:
-			for _, o := range t.Types[index].Fields {
-				if o.Label == api.Member && o.Oneof == x.Oneof {
-					out = model.Clear(out, o.Number)
-				}
-			}
-		}
-		put(&out, f)
-	}
-	out.Unknown = append(out.Unknown, b.Unknown...)
-	return out
-}
-
-func mergedMap(x api.FieldType, a, b api.Field) api.Field {
-	out := api.Field{Number: x.Number, Keys: slices.Clone(b.Keys), Vals: slices.Clone(b.Vals)}
-	for i, k := range a.Keys {
-		place, isThere := slices.BinarySearchFunc(out.Keys, k, func(a, b api.Val) int {
-			order, _ := scalar.Compare(x.Key, a, b)
-			return order
-		})
-		if !isThere {
-			out.Keys, out.Vals = slices.Insert(out.Keys, place, k), slices.Insert(out.Vals, place, a.Vals[i])
-		}
-	}
-	return out
-}
-
 // TestP9_4Both: of bytes a, b that both are read, Decode of a b is the merge of both (T4).
 func TestP9_4Both(t *testing.T) {
 	m := samples.New(96)
@@ -147,7 +104,7 @@ func TestP9_4Both(t *testing.T) {
 		}
 		reads++
 		both, e := interp.Decode(x, 0, all(a, b))
-		if want := merged(x, 0, first, second); e != api.OK || !model.Equal(both, want) {
+		if want := samples.Merged(x, 0, first, second); e != api.OK || !model.Equal(both, want) {
 			t.Errorf("% d and % d: %s, error %d; want %s; table %+v", a, b, told(both), e, told(want), x)
 		}
 	}
