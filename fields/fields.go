@@ -34,6 +34,21 @@ func Find(l []api.FieldType, number int) (api.FieldType, bool) {
 	return f, true
 }
 
+// Named tells the one of a list with that name.
+func Named(l []api.FieldType, name string) (api.FieldType, bool) {
+	return firstOf(l, func(f api.FieldType) bool { return f.Name == name })
+}
+
+// firstOf tells the first of a list that is so.
+func firstOf[T any](l []T, isSo func(T) bool) (T, bool) {
+	i := slices.IndexFunc(l, isSo)
+	if i < 0 {
+		var none T
+		return none, false
+	}
+	return l[i], true
+}
+
 // TakesValue tells whether a field takes entries of its number and that wire kind as values.
 func TakesValue(f api.FieldType, kind int) bool {
 	if f.Label == api.Map { // its values stand in a chunk, each with its key
@@ -49,9 +64,15 @@ func TakesRow(f api.FieldType, kind int) bool {
 	return isList && scalar.Numeric(f.Kind) && kind == api.Chunk
 }
 
+// Symbol tells the first of an enum's symbols that is so.
+func Symbol(x api.Type, isSo func(api.Symbol) bool) (api.Symbol, bool) {
+	return firstOf(x.Symbols, isSo)
+}
+
 // HasSymbol tells whether an enum has one with that number.
 func HasSymbol(x api.Type, number uint64) bool {
-	return slices.ContainsFunc(x.Symbols, func(s api.Symbol) bool { return uint64(s.Number) == number })
+	_, ok := Symbol(x, func(s api.Symbol) bool { return uint64(s.Number) == number })
+	return ok
 }
 
 // IsDefault tells whether a typed value is its kind's default. What its kind does not use is empty, so that it need not be told; of a message it is never asked.

@@ -1,6 +1,7 @@
 package fields_test
 
 import (
+	"fmt"
 	"math"
 	"slices"
 	"testing"
@@ -46,6 +47,23 @@ func span(from, to int) []int {
 	return out
 }
 
+func TestNamed(t *testing.T) {
+	l := []api.FieldType{{Name: "a", Number: 1}, {Name: "A", Number: 2}, {Name: "ab", Number: 3}, {Name: "b", Number: 4, Kind: api.Bool}}
+	for _, want := range l {
+		if f, ok := fields.Named(l, want.Name); !ok || f != want {
+			t.Errorf("Named of %q: %+v, %v", want.Name, f, ok)
+		}
+	}
+	for _, name := range []string{"", "B", "aa", "abb", "a "} {
+		if f, ok := fields.Named(l, name); ok || f != (api.FieldType{}) {
+			t.Errorf("Named of %q: %+v, %v", name, f, ok)
+		}
+	}
+	if _, ok := fields.Named(nil, ""); ok {
+		t.Error("one of none is named")
+	}
+}
+
 // TestTakes has each kind, label and wire kind, and those that are none.
 func TestTakes(t *testing.T) {
 	own := map[int]int{api.Fixed32: api.Fix32, api.Sfixed32: api.Fix32, api.Float: api.Fix32, api.Fixed64: api.Fix64, api.Sfixed64: api.Fix64, api.Double: api.Fix64, api.String: api.Chunk, api.Bytes: api.Chunk, api.Message: api.Chunk}
@@ -86,6 +104,59 @@ func TestHasSymbol(t *testing.T) {
 	}
 	if fields.HasSymbol(api.Type{}, 0) {
 		t.Error("0 is one of none")
+	}
+}
+
+func TestSymbol(t *testing.T) {
+	x := api.Type{Name: "E", Enum: true, Symbols: []api.Symbol{{Name: "A"}, {Name: "C", Number: 7}, {Name: "B", Number: 5}}}
+	for _, want := range x.Symbols {
+		if s, ok := fields.Symbol(x, func(s api.Symbol) bool { return s.Name == want.Name }); !ok || s != want {
+			t.Errorf("Symbol %q: %+v, %v", want.Name, s, ok)
+		}
+	}
+	if s, ok := fields.Symbol(x, func(s api.Symbol) bool { return s.Number > 0 }); !ok || s.Name != "C" {
+		t.Errorf("the first one above 0: %+v, %v", s, ok)
+	}
+	if s, ok := fields.Symbol(x, func(s api.Symbol) bool { return s.Name == "D" }); ok || s != (api.Symbol{}) {
+		t.Errorf("one that is none: %+v, %v", s, ok)
+	}
+}
+
+// TestOrdered has keys in and out of order, and several that are one.
+func TestOrdered(t *testing.T) {
+	minus := ^uint64(0)
+	for _, row := range []struct {
+		key        int
+		keys, want []uint64
+		last       []int // the place at which the one that stays stood
+	}{
+		{api.Uint32, nil, nil, nil},
+		{api.Uint32, []uint64{3}, []uint64{3}, []int{0}},
+		{api.Uint32, []uint64{1, 2, 3}, []uint64{1, 2, 3}, []int{0, 1, 2}},
+		{api.Uint32, []uint64{3, 1, 2}, []uint64{1, 2, 3}, []int{1, 2, 0}},
+		{api.Uint32, []uint64{3, 1, 3, 1, 3}, []uint64{1, 3}, []int{3, 4}},
+		{api.Uint32, []uint64{7, 7, 7}, []uint64{7}, []int{2}},
+		{api.Int64, []uint64{1, 0, minus, minus - 1}, []uint64{minus - 1, minus, 0, 1}, []int{3, 2, 1, 0}},
+		{api.Uint64, []uint64{minus, 0, minus - 1}, []uint64{0, minus - 1, minus}, []int{1, 2, 0}},
+	} {
+		own, want := api.Field{Number: 9}, api.Field{Number: 9}
+		for i, n := range row.keys {
+			own.Keys, own.Vals = append(own.Keys, api.Val{N: n}), append(own.Vals, api.Val{N: uint64(i)})
+		}
+		for i, n := range row.want {
+			want.Keys, want.Vals = append(want.Keys, api.Val{N: n}), append(want.Vals, api.Val{N: uint64(row.last[i])})
+		}
+		before := fmt.Sprint(own)
+		if got := fields.Ordered(api.FieldType{Label: api.Map, Key: row.key}, own); fmt.Sprint(got) != fmt.Sprint(want) || fmt.Sprint(own) != before {
+			t.Errorf("Ordered of %v: %v, want %v", before, got, want)
+		}
+	}
+	texts := api.Field{Keys: []api.Val{{B: []byte("b")}, {B: []byte("ab")}, {}, {B: []byte("a")}}, Vals: make([]api.Val, 4)}
+	got := fields.Ordered(api.FieldType{Label: api.Map, Key: api.String}, texts)
+	for i, want := range []string{"", "a", "ab", "b"} {
+		if string(got.Keys[i].B) != want {
+			t.Errorf("key %d: %q, want %q", i, got.Keys[i].B, want)
+		}
 	}
 }
 

@@ -6,7 +6,6 @@ import (
 
 	"cartouche/api"
 	"cartouche/fields"
-	"cartouche/scalar"
 )
 
 // fill reads all bytes into a message of a type.
@@ -90,7 +89,7 @@ func orderKeys(types []api.Type, x api.Type, m api.Msg) {
 		own := &m.Fields[i]
 		f, _ := fields.Find(x.Fields, own.Number)
 		if f.Label == api.Map {
-			*own = ordered(f, *own)
+			*own = fields.Ordered(f, *own)
 		}
 		for _, v := range own.Vals {
 			for _, within := range v.M {
@@ -98,26 +97,4 @@ func orderKeys(types []api.Type, x api.Type, m api.Msg) {
 			}
 		}
 	}
-}
-
-// pair is a key and its value.
-type pair struct{ key, val api.Val }
-
-func ordered(f api.FieldType, own api.Field) api.Field {
-	var l []pair
-	for i, k := range own.Keys {
-		l = append(l, pair{k, own.Vals[i]})
-	}
-	byKey := func(a, b pair) int {
-		order, _ := scalar.Compare(f.Key, a.key, b.key)
-		return order
-	}
-	slices.SortStableFunc(l, byKey) // the last one of those that are one must stay the last
-	out := api.Field{Number: own.Number}
-	for i, p := range l {
-		if i+1 == len(l) || byKey(p, l[i+1]) != 0 {
-			out.Keys, out.Vals = append(out.Keys, p.key), append(out.Vals, p.val)
-		}
-	}
-	return out
 }

@@ -18,15 +18,15 @@ func (l types) wayOf(x api.Type, path string) (way, bool) {
 	var w way
 	for {
 		name, rest, goesOn := strings.Cut(path, ".")
-		i := slices.IndexFunc(x.Fields, func(f api.FieldType) bool { return f.Name == name })
-		if i < 0 || goesOn && !isWay(x.Fields[i]) {
+		f, ok := fields.Named(x.Fields, name)
+		if !ok || goesOn && !isWay(f) {
 			return nil, false
 		}
-		w = append(w, x.Fields[i].Number)
+		w = append(w, f.Number)
 		if !goesOn {
 			return w, true
 		}
-		x, path = l[x.Fields[i].Ref], rest
+		x, path = l[f.Ref], rest
 	}
 }
 
