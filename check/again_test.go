@@ -8,6 +8,7 @@ import (
 	"cartouche/api"
 	"cartouche/check"
 	"cartouche/parse"
+	"cartouche/samples"
 )
 
 // The chapter read a second time: all faults of a bundle, each with its rank; the one with the least rank is told.
@@ -269,7 +270,7 @@ func lookAgain(t *testing.T, sources []api.Source) api.Errno {
 	if a.fault() == (api.Fault{}) {
 		want = a.table()
 	}
-	if fault != a.fault() || !sameTable(table, want) {
+	if fault != a.fault() || !samples.SameTable(table, want) {
 		t.Errorf("Compile(%q):\n%+v, fault %v; want\n%+v, fault %v", sources, table, fault, want, a.fault())
 	}
 	return fault.Code

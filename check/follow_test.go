@@ -8,6 +8,7 @@ import (
 	"cartouche/api"
 	"cartouche/check"
 	"cartouche/lex"
+	"cartouche/samples"
 )
 
 func isName(s string) bool {
@@ -171,7 +172,7 @@ func sameButOrder(a, b api.Table) bool {
 		}
 		q := b.Types[i]
 		p.Fields, q.Fields = nil, nil
-		if !sameType(p, q) {
+		if !samples.SameType(p, q) {
 			return false
 		}
 	}
@@ -260,7 +261,7 @@ bundles:
 		}
 		table, fault := check.Compile(l)
 		again, otherFault := check.Compile(other)
-		if !sameTable(table, again) || fault.Code != otherFault.Code || fault.File != otherFault.File || wordAt(words, fault) != wordAt(spread, otherFault) {
+		if !samples.SameTable(table, again) || fault.Code != otherFault.Code || fault.File != otherFault.File || wordAt(words, fault) != wordAt(spread, otherFault) {
 			t.Errorf("Compile(%q):\n%+v, fault %v; with other blanks %q:\n%+v, fault %v", l, table, fault, other, again, otherFault)
 		}
 		counts[fault.Code == api.OK]++

@@ -8,6 +8,7 @@ import (
 
 	"cartouche/api"
 	"cartouche/check"
+	"cartouche/samples"
 )
 
 // files are sources named a, b, c and so on.
@@ -70,16 +71,9 @@ func lookAtTaken(t *testing.T, texts ...string) {
 	tableOf(t, files(texts...))
 }
 
-func sameType(a, b api.Type) bool {
-	return a.Name == b.Name && a.Enum == b.Enum && slices.Equal(a.Fields, b.Fields) && slices.Equal(a.Oneofs, b.Oneofs) &&
-		slices.Equal(a.Symbols, b.Symbols) && slices.Equal(a.Reserved, b.Reserved)
-}
-
-func sameTable(a, b api.Table) bool { return slices.EqualFunc(a.Types, b.Types, sameType) }
-
 func lookAtTable(t *testing.T, sources []api.Source, want ...api.Type) {
 	t.Helper()
-	if got := tableOf(t, sources); !sameTable(got, api.Table{Types: want}) {
+	if got := tableOf(t, sources); !samples.SameTable(got, api.Table{Types: want}) {
 		t.Errorf("Compile(%q):\n%+v, want\n%+v", sources, got.Types, want)
 	}
 }

@@ -10,6 +10,7 @@ import (
 
 	"cartouche/api"
 	"cartouche/check"
+	"cartouche/samples"
 )
 
 // TestR1R2 has bundles of words and of bytes by chance: none panics; an answer is a table or a fault.
@@ -90,7 +91,7 @@ func TestR4AnswersAreNew(t *testing.T) {
 	l := whole()
 	first, second := tableOf(t, l), tableOf(t, l)
 	spoilTable(first)
-	if want := readAgain(whole()).table(); !sameTable(second, want) || !sameTable(tableOf(t, l), want) || !slices.Equal(l, whole()) {
+	if want := readAgain(whole()).table(); !samples.SameTable(second, want) || !samples.SameTable(tableOf(t, l), want) || !slices.Equal(l, whole()) {
 		t.Errorf("spoilt with an answer: %+v, %+v", second, l)
 	}
 }
@@ -135,7 +136,7 @@ func TestR4Arguments(t *testing.T) {
 		t.Errorf("the sources changed: %q", spare)
 	}
 	spoil(l, api.Source{Name: "spoilt"})
-	if !sameTable(table, readAgain(whole()).table()) {
+	if !samples.SameTable(table, readAgain(whole()).table()) {
 		t.Errorf("the table changed with the sources: %+v", table)
 	}
 	names := append(make([]string, 0, 4), "T", "A.T")
@@ -197,7 +198,7 @@ func TestR5Many(t *testing.T) {
 		group.Go(func() {
 			for step := range 300 {
 				i := (7*worker + step) % len(bundles)
-				if table, fault := check.Compile(bundles[i]); fault != faults[i] || !sameTable(table, want[i]) {
+				if table, fault := check.Compile(bundles[i]); fault != faults[i] || !samples.SameTable(table, want[i]) {
 					t.Errorf("Compile(%q): %+v, fault %v", bundles[i], table, fault)
 				}
 			}

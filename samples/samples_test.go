@@ -26,6 +26,54 @@ func TestTables(t *testing.T) {
 		if x := m.Table(); !table.Good(x) || x.Types[0].Enum {
 			t.Fatalf("not good: %+v", x)
 		}
+		if x := m.Rich(); !table.Good(x) {
+			t.Fatalf("not good: %+v", x)
+		}
+	}
+}
+
+// TestBentTables sees that some are good, and others not.
+func TestBentTables(t *testing.T) {
+	m := samples.New(5)
+	var bent, wild int
+	for range 3000 {
+		if table.Good(m.BentTable()) {
+			bent++
+		}
+		if table.Good(m.WildTable()) {
+			wild++
+		}
+	}
+	if bent < 1000 || bent > 2500 || wild > 2500 {
+		t.Errorf("%d and %d are good", bent, wild)
+	}
+}
+
+// TestCopiesOfTables sees that what is told as a copy is the same, and has memory of its own.
+func TestCopiesOfTables(t *testing.T) {
+	m := samples.New(6)
+	for range 1000 {
+		x := samples.Pick(m, m.BentTable(), m.WildTable())
+		whole := samples.WhollyTable(x)
+		for i, y := range []api.Table{samples.CopyTable(x), samples.EmptiedTable(x), samples.RoomyTable(x)} {
+			if !samples.SameTable(x, y) || samples.SharesTable(y, x) || samples.SharesTable(y) {
+				t.Errorf("copy %d of %+v: %+v", i, x, y)
+			}
+		}
+		if samples.WhollyTable(x) != whole || samples.WhollyTable(samples.RoomyTable(x)) == whole {
+			t.Errorf("%s: spare room is not told", whole)
+		}
+		if len(x.Types) > 0 && (!samples.SharesTable(x, x) || samples.SameTable(x, samples.Table(x.Types[1:]...))) {
+			t.Errorf("%+v is not the same as it", x)
+		}
+	}
+	whole := samples.Wide()
+	y := whole.Types[1]
+	if y.Name = "V"; samples.SameType(y, whole.Types[1]) || !samples.SharesTable(samples.Table(y, y)) || samples.SharesTable(samples.Table(y)) {
+		t.Error("fields that two types share are not seen")
+	}
+	if y.Fields = y.Fields[:3:3]; !samples.SharesTable(samples.Table(y), whole) {
+		t.Error("fields that two tables share are not seen")
 	}
 }
 

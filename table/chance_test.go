@@ -2,8 +2,6 @@ package table_test
 
 import (
 	"fmt"
-	"math"
-	"math/rand"
 	"slices"
 	"strings"
 	"testing"
@@ -12,181 +10,6 @@ import (
 	"cartouche/samples"
 	"cartouche/table"
 )
-
-// maker makes tables by chance.
-type maker struct{ chance *rand.Rand }
-
-func newMaker(seed int64) *maker { return &maker{rand.New(rand.NewSource(seed))} }
-
-func pick[T any](m *maker, l ...T) T { return l[m.chance.Intn(len(l))] }
-
-// names lays types: messages among one another, each ahead of those within it. Names of one depth are none of another one, so that full names stand for themselves wherever they are written.
-func (m *maker) names(around string, room int) []api.Type {
-	var out []api.Type
-	for i := range 1 + m.chance.Intn(3) {
-		x := api.Type{Name: around + fmt.Sprint(pick(m, "A", "b", "_", "int32x"), room, "_", i), Enum: m.chance.Intn(3) == 0}
-		out = append(out, x)
-		if !x.Enum && room > 1 && m.chance.Intn(2) == 0 {
-			out = append(out, m.names(x.Name+".", room-1)...)
-		}
-	}
-	return out
-}
-
-// next tells a good table of some types, with members of all sorts.
-func (m *maker) next() api.Table {
-	t := tableOf(m.names("", 3)...)
-	for i := range t.Types {
-		if t.Types[i].Enum {
-			t.Types[i].Symbols = m.symbols()
-		} else {
-			m.members(t, &t.Types[i])
-		}
-	}
-	return t
-}
-
-func (m *maker) symbols() []api.Symbol {
-	out := []api.Symbol{{Name: "Z"}}
-	for i := range m.chance.Intn(4) {
-		out = append(out, api.Symbol{Name: fmt.Sprint("S", i), Number: pick(m, 10, 1<<31-5, 1000) + m.chance.Intn(2) + 2*i - 1})
-	}
-	seen := map[int]int{}
-	return slices.DeleteFunc(out, func(s api.Symbol) bool { seen[s.Number]++; return seen[s.Number] > 1 })
-}
-
-// members goes up the numbers: at each step stands a field, a range or nothing.
-func (m *maker) members(t api.Table, x *api.Type) {
-	number := 0
-	for range m.chance.Intn(9) {
-		number += 1 + m.chance.Intn(3)
-		switch m.chance.Intn(4) {
-		case 0:
-			high := number + m.chance.Intn(3)
-			x.Reserved = append(x.Reserved, api.Range{Low: number, High: high})
-			number = high
-		default:
-			x.Fields = append(x.Fields, m.field(t, x, number))
-		}
-	}
-}
-
-func (m *maker) field(t api.Table, x *api.Type, number int) api.FieldType {
-	f := api.FieldType{Name: fmt.Sprint("f", number), Number: number, Kind: 1 + m.chance.Intn(api.Message), Label: m.chance.Intn(api.Map + 1)}
-	if f.Kind >= api.Enum {
-		f.Ref = m.chance.Intn(len(t.Types))
-		f.Kind = api.Message
-		if t.Types[f.Ref].Enum {
-			f.Kind = api.Enum
-		}
-	}
-	switch {
-	case f.Label == api.Plain && f.Kind == api.Message:
-		f.Label = api.Optional
-	case f.Label == api.Packed && (f.Kind == api.String || f.Kind == api.Bytes || f.Kind == api.Message):
-		f.Label = api.Repeated
-	case f.Label == api.Map:
-		f.Key = pick(m, api.Bool, api.Int32, api.Uint64, api.Sfixed64, api.String)
-	case f.Label == api.Member:
-		if len(x.Oneofs) == 0 || m.chance.Intn(2) == 0 {
-			x.Oneofs = append(x.Oneofs, fmt.Sprint("o", number))
-		}
-		f.Oneof = m.chance.Intn(len(x.Oneofs))
-		if !slices.ContainsFunc(x.Fields, func(o api.FieldType) bool { return o.Label == api.Member && o.Oneof == len(x.Oneofs)-1 }) {
-			f.Oneof = len(x.Oneofs) - 1
-		}
-	}
-	return f
-}
-
-// number tells one near an edge, or near the one that stands there.
-func (m *maker) number(n int) int {
-	return pick(m, n, n-1, n+1, n+2, 0, 1, 2, 3, -1, api.Message, api.Message+1, api.MaxNumber, api.MaxNumber+1, 1<<31-1, 1<<31, math.MinInt, math.MaxInt)
-}
-
-func (m *maker) word(s string) string {
-	return pick(m, s, s+"x", s+".x", s+".", "."+s, "", "Z", "f1", "o1", "A3_0", "A3_0.A2_0", "_1", "1", s+"é", s+" ")
-}
-
-// change changes one thing of a type.
-func (m *maker) change(t api.Table, x *api.Type) {
-	switch m.chance.Intn(11) {
-	case 0:
-		x.Name = pick(m, m.word(x.Name), t.Types[m.chance.Intn(len(t.Types))].Name)
-	case 1:
-		x.Enum = !x.Enum
-	case 2:
-		x.Oneofs = append(x.Oneofs, m.word("o"))
-	case 3:
-		x.Symbols = append(x.Symbols, api.Symbol{Name: m.word("S"), Number: m.number(5)})
-	case 4:
-		x.Reserved = append(x.Reserved, api.Range{Low: m.number(20), High: m.number(20)})
-	case 5:
-		m.changeNames(x)
-	case 6:
-		m.changeRanges(x)
-	default:
-		m.changeItem(x)
-	}
-}
-
-// changeNames gives a member the name of another one.
-func (m *maker) changeNames(x *api.Type) {
-	if len(x.Fields) == 0 {
-		return
-	}
-	f, o := &x.Fields[m.chance.Intn(len(x.Fields))], x.Fields[m.chance.Intn(len(x.Fields))]
-	f.Name = o.Name
-	if len(x.Oneofs) > 0 && m.chance.Intn(2) == 0 {
-		f.Name = pick(m, x.Oneofs...)
-	}
-}
-
-// changeRanges turns two round, or has one reach to another one.
-func (m *maker) changeRanges(x *api.Type) {
-	if len(x.Reserved) < 2 {
-		return
-	}
-	i := 1 + m.chance.Intn(len(x.Reserved)-1)
-	if m.chance.Intn(2) == 0 {
-		x.Reserved[i-1], x.Reserved[i] = x.Reserved[i], x.Reserved[i-1]
-		return
-	}
-	x.Reserved[i-1].High = x.Reserved[i].Low - m.chance.Intn(2)
-}
-
-func (m *maker) changeItem(x *api.Type) {
-	switch sort := m.chance.Intn(8); {
-	case sort == 0 && len(x.Symbols) > 0:
-		s := &x.Symbols[m.chance.Intn(len(x.Symbols))]
-		s.Name, s.Number = pick(m, s.Name, m.word(s.Name)), pick(m, s.Number, m.number(s.Number))
-	case sort == 1 && len(x.Reserved) > 0:
-		r := &x.Reserved[m.chance.Intn(len(x.Reserved))]
-		r.Low, r.High = pick(m, r.Low, m.number(r.Low)), pick(m, r.High, m.number(r.High))
-	case sort == 2 && len(x.Oneofs) > 0:
-		x.Oneofs = x.Oneofs[1:]
-	case len(x.Fields) > 0:
-		f := &x.Fields[m.chance.Intn(len(x.Fields))]
-		n := pick(m, &f.Number, &f.Kind, &f.Ref, &f.Label, &f.Oneof, &f.Key)
-		*n = m.number(*n)
-		if m.chance.Intn(6) == 0 {
-			f.Name = m.word(f.Name)
-		}
-	}
-}
-
-// changed tells a table with a few changes; of types that stand in another order too.
-func (m *maker) changed() api.Table {
-	t := m.next()
-	for range m.chance.Intn(3) {
-		m.change(t, &t.Types[m.chance.Intn(len(t.Types))])
-	}
-	if m.chance.Intn(8) == 0 {
-		i, j := m.chance.Intn(len(t.Types)), m.chance.Intn(len(t.Types))
-		t.Types[i], t.Types[j] = t.Types[j], t.Types[i]
-	}
-	return t
-}
 
 // faults reads the chapter's words a second time: it tells each part of them that a table breaks.
 func faults(t api.Table) []string {
@@ -294,10 +117,10 @@ func isFieldBad(t api.Table, x api.Type, f api.FieldType) bool {
 }
 
 func TestP7_1Chance(t *testing.T) {
-	m := newMaker(71)
+	m := samples.New(71)
 	counts := map[string]int{}
 	for range 20000 {
-		x := m.changed()
+		x := m.BentTable()
 		l := faults(x)
 		if got := table.Good(x); got != (len(l) == 0) {
 			t.Errorf("Good(%+v): %v, but %q", x, got, l)
@@ -318,9 +141,9 @@ func TestP7_1Chance(t *testing.T) {
 
 // TestP7_2Chance asks each field and symbol of tables by chance, and numbers and names about them.
 func TestP7_2Chance(t *testing.T) {
-	m := newMaker(72)
+	m := samples.New(72)
 	for range 400 {
-		x := m.next()
+		x := m.Rich()
 		for index, y := range x.Types {
 			for n := range 40 {
 				f, e := table.Field(x, index, n)

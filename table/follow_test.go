@@ -7,6 +7,7 @@ import (
 
 	"cartouche/api"
 	"cartouche/check"
+	"cartouche/samples"
 	"cartouche/table"
 )
 
@@ -80,12 +81,12 @@ func fieldText(t api.Table, f api.FieldType) string {
 
 // TestP7_5Compiled has tables by chance written as files: what is compiled of them is good, and the table.
 func TestP7_5Compiled(t *testing.T) {
-	m := newMaker(75)
+	m := samples.New(75)
 	for range 1500 {
-		x := m.next()
+		x := m.Rich()
 		file, _ := text(x, 0, "")
 		got, fault := check.Compile([]api.Source{{Name: "a", Text: file}})
-		if fault.Code != api.OK || !sameTable(got, x) {
+		if fault.Code != api.OK || !samples.SameTable(got, x) {
 			t.Fatalf("Compile(%s): fault %v\n%+v, want\n%+v", file, fault, got, x)
 		}
 		lookAtGood(t, file, got, true)
@@ -138,11 +139,11 @@ func TestP7_5Files(t *testing.T) {
 
 // TestP7_5OneMore puts a type that is good alone behind others: what it held of itself it holds at its new place.
 func TestP7_5OneMore(t *testing.T) {
-	m := newMaker(76)
+	m := samples.New(76)
 	for range 2000 {
-		x := m.next()
-		more := m.next().Types[0]
-		more.Name = pick(m, "More", "more_1", "A_", "E", "M")
+		x := m.Rich()
+		more := m.Rich().Types[0]
+		more.Name = samples.Pick(m, "More", "more_1", "A_", "E", "M")
 		for i, f := range more.Fields {
 			more.Fields[i].Ref = 0
 			if f.Kind >= api.Enum {
@@ -158,8 +159,8 @@ func TestP7_5OneMore(t *testing.T) {
 				more.Fields[i].Ref = len(x.Types)
 			}
 		}
-		before := copyOf(x)
-		y := tableOf(append(copyOf(x).Types, more)...)
+		before := samples.CopyTable(x)
+		y := tableOf(append(samples.CopyTable(x).Types, more)...)
 		lookAtGood(t, "one more", y, true)
 		lookAt(t, "the one more", find(y, more.Name), answer{number: len(x.Types)})
 		for i := range x.Types {
@@ -167,7 +168,7 @@ func TestP7_5OneMore(t *testing.T) {
 				t.Errorf("Depths(%+v, %d): %+v, with one more %+v", x, i, a, b)
 			}
 		}
-		twice := tableOf(append(copyOf(x).Types, api.Type{Name: pick(m, before.Types...).Name})...)
+		twice := tableOf(append(samples.CopyTable(x).Types, api.Type{Name: samples.Pick(m, before.Types...).Name})...)
 		lookAtGood(t, "one that has another one's name", twice, false)
 	}
 	full := tableOf(messages(api.MaxTypes - 1)...)

@@ -6,6 +6,7 @@ import (
 	"testing"
 
 	"cartouche/api"
+	"cartouche/samples"
 	"cartouche/table"
 )
 
@@ -107,7 +108,7 @@ func TestP7_1FullNames(t *testing.T) {
 
 // spoilt tells a table with one type changed.
 func spoilt(x api.Table, index int, change func(*api.Type)) api.Table {
-	out := copyOf(x)
+	out := samples.CopyTable(x)
 	change(&out.Types[index])
 	return out
 }

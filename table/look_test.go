@@ -2,7 +2,6 @@ package table_test
 
 import (
 	"fmt"
-	"slices"
 	"strings"
 	"testing"
 
@@ -94,23 +93,6 @@ func many() api.Table {
 	f := enumOf("M.N.F", api.Symbol{Name: "Z"}, api.Symbol{Name: "Y", Number: 1<<31 - 1}, api.Symbol{Name: "X", Number: 5})
 	return tableOf(plainEnum("E"), m, n, f, plainEnum("M.E"))
 }
-
-// copyOf tells a table in memory of its own.
-func copyOf(t api.Table) api.Table {
-	out := slices.Clone(t.Types)
-	for i, x := range out {
-		out[i].Fields, out[i].Oneofs = slices.Clone(x.Fields), slices.Clone(x.Oneofs)
-		out[i].Symbols, out[i].Reserved = slices.Clone(x.Symbols), slices.Clone(x.Reserved)
-	}
-	return api.Table{Types: out}
-}
-
-func sameType(a, b api.Type) bool {
-	return a.Name == b.Name && a.Enum == b.Enum && slices.Equal(a.Fields, b.Fields) && slices.Equal(a.Oneofs, b.Oneofs) &&
-		slices.Equal(a.Symbols, b.Symbols) && slices.Equal(a.Reserved, b.Reserved)
-}
-
-func sameTable(a, b api.Table) bool { return slices.EqualFunc(a.Types, b.Types, sameType) }
 
 func lookAtGood(t *testing.T, what string, x api.Table, want bool) {
 	t.Helper()

@@ -1,7 +1,6 @@
 package table_test
 
 import (
-	"fmt"
 	"math"
 	"slices"
 	"strings"
@@ -10,6 +9,7 @@ import (
 	"unsafe"
 
 	"cartouche/api"
+	"cartouche/samples"
 	"cartouche/table"
 )
 
@@ -30,39 +30,22 @@ func all(t *testing.T, x api.Table, index, n int, s string) []answer {
 
 // TestR1R2 has tables that are not good, and any index, number, kind and name: none panics, and of a table that is not good each is refused.
 func TestR1R2(t *testing.T) {
-	m := newMaker(77)
+	m := samples.New(77)
 	for range 3000 {
-		x := m.changed()
-		if m.chance.Intn(4) == 0 {
-			x = m.wild()
+		x := m.BentTable()
+		if m.Below(4) == 0 {
+			x = m.WildTable()
 		}
 		good := table.Good(x)
 		for range 4 {
-			index := pick(m, m.chance.Intn(len(x.Types)+2)-1, m.number(0))
-			for i, a := range all(t, x, index, m.number(m.chance.Intn(12)), m.word("f1")) {
+			index := samples.Pick(m, m.Below(len(x.Types)+2)-1, m.Near(0))
+			for i, a := range all(t, x, index, m.Near(m.Below(12)), m.Word("f1")) {
 				if !good && a.e != api.ErrArg || i > 0 && (index < 0 || index >= len(x.Types)) && a.e != api.ErrArg {
 					t.Errorf("call %d of %+v, type %d: %+v", i, x, index, a)
 				}
 			}
 		}
 	}
-}
-
-// wild tells a table in which anything may stand anywhere.
-func (m *maker) wild() api.Table {
-	var t api.Table
-	for range m.chance.Intn(4) {
-		x := api.Type{Name: m.word("A"), Enum: m.chance.Intn(2) == 0}
-		for range m.chance.Intn(3) {
-			n := func() int { return m.number(m.chance.Intn(20)) }
-			x.Fields = append(x.Fields, api.FieldType{Name: m.word("f"), Number: n(), Kind: n(), Ref: n(), Label: n(), Oneof: n(), Key: n()})
-			x.Oneofs = append(x.Oneofs, m.word("o"))
-			x.Symbols = append(x.Symbols, api.Symbol{Name: m.word("S"), Number: n()})
-			x.Reserved = append(x.Reserved, api.Range{Low: n(), High: n()})
-		}
-		t.Types = append(t.Types, x)
-	}
-	return t
 }
 
 // TestR1Big has very long lists and names: each is refused or answered soon.
@@ -120,49 +103,17 @@ func TestR1Full(t *testing.T) {
 	}
 }
 
-// withRoom tells a table whose lists have spare room, with something in it.
-func withRoom(x api.Table) api.Table {
-	out := slices.Grow(slices.Clone(x.Types), 3)
-	for i, y := range out {
-		out[i].Fields = roomy(y.Fields, api.FieldType{Name: "spare", Number: 7})
-		out[i].Oneofs = roomy(y.Oneofs, "spare")
-		out[i].Symbols = roomy(y.Symbols, api.Symbol{Name: "spare"})
-		out[i].Reserved = roomy(y.Reserved, api.Range{Low: 7})
-	}
-	return api.Table{Types: roomy(out, api.Type{Name: "spare"})}
-}
-
-func roomy[T any](l []T, with T) []T {
-	out := make([]T, len(l)+3)
-	copy(out, l)
-	for i := range 3 {
-		out[len(l)+i] = with
-	}
-	return out[:len(l)]
-}
-
-func wholeOf[T any](l []T) []T { return l[:cap(l)] }
-
-// told tells all that stands in a table's memory, spare room too.
-func told(x api.Table) string {
-	var b strings.Builder
-	for _, y := range wholeOf(x.Types) {
-		fmt.Fprintf(&b, "%q %v %v %q %v %v\n", y.Name, y.Enum, wholeOf(y.Fields), wholeOf(y.Oneofs), wholeOf(y.Symbols), wholeOf(y.Reserved))
-	}
-	return b.String()
-}
-
 func TestR4Arguments(t *testing.T) {
-	m := newMaker(78)
+	m := samples.New(78)
 	for range 500 {
-		x := withRoom(m.changed())
-		before := told(x)
+		x := samples.RoomyTable(m.BentTable())
+		before := samples.WhollyTable(x)
 		table.Good(x)
 		for index := range x.Types {
-			all(t, x, index, 1+m.chance.Intn(9), pick(m, "f1", "Z", "A3_0"))
+			all(t, x, index, 1+m.Below(9), samples.Pick(m, "f1", "Z", "A3_0"))
 		}
-		if told(x) != before {
-			t.Errorf("changed: %s, was %s", told(x), before)
+		if samples.WhollyTable(x) != before {
+			t.Errorf("changed: %s, was %s", samples.WhollyTable(x), before)
 		}
 	}
 }
@@ -200,29 +151,15 @@ func TestR4AnswersAreNew(t *testing.T) {
 
 // TestR4EmptyLists sees that nil and an empty list are one.
 func TestR4EmptyLists(t *testing.T) {
-	m := newMaker(79)
+	m := samples.New(79)
 	for range 1000 {
-		x := m.changed()
-		y := copyOf(x)
-		for i, z := range y.Types {
-			if len(z.Fields) == 0 {
-				y.Types[i].Fields = []api.FieldType{}
-			}
-			if len(z.Oneofs) == 0 {
-				y.Types[i].Oneofs = []string{}
-			}
-			if len(z.Symbols) == 0 {
-				y.Types[i].Symbols = make([]api.Symbol, 0, 2)
-			}
-			if len(z.Reserved) == 0 {
-				y.Types[i].Reserved = make([]api.Range, 0, 2)
-			}
-		}
+		x := m.BentTable()
+		y := samples.EmptiedTable(x)
 		if table.Good(x) != table.Good(y) {
 			t.Errorf("Good(%+v): %v", x, table.Good(x))
 		}
 		for index := range x.Types {
-			n, s := m.chance.Intn(9), pick(m, "f1", "f3", "Z", "A3_0", "")
+			n, s := m.Below(9), samples.Pick(m, "f1", "f3", "Z", "A3_0", "")
 			if !slices.Equal(all(t, x, index, n, s), all(t, y, index, n, s)) {
 				t.Errorf("with empty lists otherwise: %+v, type %d, number %d, name %s", x, index, n, s)
 			}
@@ -232,11 +169,11 @@ func TestR4EmptyLists(t *testing.T) {
 
 // TestR5Many asks from many goroutines at a time, one table.
 func TestR5Many(t *testing.T) {
-	m := newMaker(80)
+	m := samples.New(80)
 	var tables []api.Table
 	var want [][]answer
 	for range 40 {
-		x := m.changed()
+		x := m.BentTable()
 		tables, want = append(tables, x), append(want, all(t, x, 0, 2, "f2"))
 	}
 	var group sync.WaitGroup
