@@ -49,12 +49,17 @@ func firstOf[T any](l []T, isSo func(T) bool) (T, bool) {
 	return l[i], true
 }
 
+// ValueWire tells the wire kind in which a field's values stand one by one; ErrArg, if its kind is none.
+func ValueWire(f api.FieldType) (int, api.Errno) {
+	if f.Label == api.Map { // its values stand in a chunk, each with its key
+		return api.Chunk, api.OK
+	}
+	return scalar.Wire(f.Kind)
+}
+
 // TakesValue tells whether a field takes entries of its number and that wire kind as values.
 func TakesValue(f api.FieldType, kind int) bool {
-	if f.Label == api.Map { // its values stand in a chunk, each with its key
-		return kind == api.Chunk
-	}
-	own, e := scalar.Wire(f.Kind)
+	own, e := ValueWire(f)
 	return e == api.OK && kind == own
 }
 

@@ -79,6 +79,9 @@ func TestTakes(t *testing.T) {
 				if fields.TakesValue(f, w) != value || fields.TakesRow(f, w) != row {
 					t.Errorf("%+v, wire kind %d: value %v, row %v", f, w, fields.TakesValue(f, w), fields.TakesRow(f, w))
 				}
+				if own, e := fields.ValueWire(f); e != api.OK || (own == w) != value {
+					t.Errorf("%+v: wire kind %d, error %d", f, own, e)
+				}
 			}
 		}
 	}
@@ -86,6 +89,9 @@ func TestTakes(t *testing.T) {
 		f := api.FieldType{Kind: kind, Label: api.Repeated}
 		if fields.TakesValue(f, 0) || fields.TakesRow(f, api.Chunk) {
 			t.Errorf("a kind that is none, %d, takes something", kind)
+		}
+		if own, e := fields.ValueWire(f); e != api.ErrArg || own != 0 {
+			t.Errorf("a kind that is none, %d: wire kind %d, error %d", kind, own, e)
 		}
 	}
 }

@@ -6,6 +6,7 @@ import (
 
 	"cartouche/api"
 	"cartouche/model"
+	"cartouche/plan"
 	"cartouche/samples"
 	"cartouche/table"
 )
@@ -77,6 +78,63 @@ func TestCopiesOfTables(t *testing.T) {
 	}
 }
 
+// TestPrograms sees that what is told as valid is, that each operation comes, and that some of those that are changed are valid, and others not.
+func TestPrograms(t *testing.T) {
+	m := samples.New(7)
+	counts := map[int]int{}
+	var bent, wild int
+	for range 3000 {
+		p := m.Program()
+		if !plan.Valid(p) || len(p.Blocks[0].Dec) == 0 {
+			t.Fatalf("not valid: %+v", p)
+		}
+		for _, b := range p.Blocks {
+			for _, s := range slices.Concat(b.Dec, b.Enc) {
+				counts[s.Op]++
+			}
+		}
+		if plan.Valid(m.BentProgram(p)) {
+			bent++
+		}
+		if plan.Valid(m.WildProgram()) {
+			wild++
+		}
+	}
+	for op := plan.Tag; op <= plan.PutVal; op++ {
+		if counts[op] < 500 {
+			t.Errorf("the operation %d comes %d times", op, counts[op])
+		}
+	}
+	if bent < 300 || bent > 2000 || wild > 1000 {
+		t.Errorf("%d and %d are valid", bent, wild)
+	}
+}
+
+// TestCopiesOfPrograms sees that what is told as a copy is the same, and has memory of its own.
+func TestCopiesOfPrograms(t *testing.T) {
+	m := samples.New(8)
+	for range 1000 {
+		p := samples.Pick(m, m.Program(), m.WildProgram())
+		whole := samples.WhollyProgram(p)
+		for i, q := range []api.Program{samples.CopyProgram(p), samples.EmptiedProgram(p), samples.RoomyProgram(p)} {
+			if !samples.SameProgram(p, q) || samples.SharesProgram(q, p) || samples.SharesProgram(q) {
+				t.Errorf("copy %d of %+v: %+v", i, p, q)
+			}
+		}
+		if bent := m.BentProgram(p); samples.SharesProgram(bent, p) || samples.WhollyProgram(p) != whole || samples.WhollyProgram(samples.RoomyProgram(p)) == whole {
+			t.Errorf("%s: it is changed, or spare room is not told", whole)
+		}
+		if len(p.Blocks) > 0 && (!samples.SharesProgram(p, p) || samples.SameProgram(p, api.Program{Blocks: p.Blocks[1:]})) {
+			t.Errorf("%+v is not the same as it", p)
+		}
+	}
+	steps := []api.Ins{{Op: plan.Tag}, {Op: plan.Go}}
+	shared := api.Block{Dec: steps[:1], Enc: steps[1:]} // by spare room
+	if !samples.SharesProgram(api.Program{Blocks: []api.Block{shared}}) || samples.ToldBlock(shared) == samples.ToldBlock(api.Block{Dec: steps}) {
+		t.Error("steps that two lists share are not seen")
+	}
+}
+
 // TestSingle sees that there is a good table for each kind and label that can be, and that values are what they are said to be.
 func TestSingle(t *testing.T) {
 	for kind := api.Bool; kind <= api.Message; kind++ {
@@ -97,6 +155,15 @@ func TestSingle(t *testing.T) {
 				t.Errorf("kind %d, value %d: typed %v, error %d", kind, i, ok, e)
 			}
 		}
+	}
+	singles := samples.Singles()
+	for i, x := range singles {
+		if !table.Good(x) || i > 0 && samples.SameTable(x, singles[i-1]) {
+			t.Errorf("table %d is not good, or stands there twice", i)
+		}
+	}
+	if count := 17*4 + 14 - 1 + 17*12; len(singles) != count { // Packed of 14 kinds, not Plain of Message, each key
+		t.Errorf("%d tables, want %d", len(singles), count)
 	}
 	for _, kind := range samples.KeyKinds() {
 		x := samples.Single(api.Bool, api.Map, kind)

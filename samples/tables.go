@@ -70,6 +70,22 @@ func Single(kind, label, key int) api.Table {
 	return Table(Symbols(), Message("I", api.FieldType{Name: "x", Number: 1, Kind: api.Int32}), x)
 }
 
+// Singles tells all good tables that Single tells.
+func Singles() []api.Table {
+	var l []api.Table
+	for kind := api.Bool; kind <= api.Message; kind++ {
+		for label := api.Plain; label < api.Map; label++ {
+			if CanBe(kind, label) {
+				l = append(l, Single(kind, label, 0))
+			}
+		}
+		for _, key := range KeyKinds() {
+			l = append(l, Single(kind, api.Map, key))
+		}
+	}
+	return l
+}
+
 // CanBe tells whether a field may have both.
 func CanBe(kind, label int) bool {
 	return !(label == api.Plain && kind == api.Message) && !(label == api.Packed && Wire(kind) == api.Chunk)

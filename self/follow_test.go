@@ -86,19 +86,8 @@ func count(parts map[string]int, x api.Table) {
 
 // TestP12_4Kinds has each kind with each label and each key.
 func TestP12_4Kinds(t *testing.T) {
-	for kind := api.Bool; kind <= api.Message; kind++ {
-		for label := api.Plain; label <= api.Map; label++ {
-			if !samples.CanBe(kind, label) {
-				continue
-			}
-			keys := []int{0}
-			if label == api.Map {
-				keys = samples.KeyKinds()
-			}
-			for _, key := range keys {
-				lookAtBack(t, samples.Single(kind, label, key))
-			}
-		}
+	for _, x := range samples.Singles() {
+		lookAtBack(t, x)
 	}
 }
 
