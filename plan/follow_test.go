@@ -54,10 +54,7 @@ func allMembers() api.Table {
 
 // TestP13_4Compiled has tables of files.
 func TestP13_4Compiled(t *testing.T) {
-	x, f := check.Compile([]api.Source{
-		{Name: "a", Text: `import "b"; message A { B b = 1; B.C c = 2; repeated int32 l = 3; repeated bool p = 4 [packed = false]; oneof o { A a = 5; E e = 6; } optional float f = 7; reserved 9; }`},
-		{Name: "b", Text: "message B { message C { map<bool, string> m = 1; map<int32, B> n = 2; } } enum E { X = 0; Y = 7; }"},
-	})
+	x, f := check.Compile(samples.Files())
 	if f.Code != api.OK {
 		t.Fatalf("fault %v", f)
 	}

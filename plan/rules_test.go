@@ -102,23 +102,6 @@ func TestR3R4Arguments(t *testing.T) {
 	}
 }
 
-// spoil writes something into all memory of a program, spare room too.
-func spoil(p plan.Program) {
-	samples.Laid{
-		Blocks: func(l *[]plan.Block) {},
-		Steps: func(l *[]plan.Ins) {
-			for i := range (*l)[:cap(*l)] {
-				(*l)[:cap(*l)][i] = plan.Ins{Op: 99, A: 99, B: 99, C: 99, D: 99}
-			}
-		},
-		Rows: func(l *[]plan.Line) {
-			for i := range (*l)[:cap(*l)] {
-				(*l)[:cap(*l)][i] = plan.Line{Tag: 99, To: 99}
-			}
-		},
-	}.Program(&p)
-}
-
 // TestR4AnswersAreNew spoils what was told: no other answer knows of it, nor does what was handed in.
 func TestR4AnswersAreNew(t *testing.T) {
 	m := samples.New(1353)
@@ -135,12 +118,12 @@ func TestR4AnswersAreNew(t *testing.T) {
 		if samples.SharesProgram(p) || samples.SharesProgram(q, p) || samples.SharesProgram(alone, p, q) {
 			t.Errorf("%s: lists share memory", brief(x))
 		}
-		spoil(p)
+		samples.SpoilProgram(p)
 		clear(p.Blocks[:cap(p.Blocks)])
 		if wholly(copied(q)) != before || wholly(copied(alone)) != before || samples.WhollyTable(x) != types {
 			t.Errorf("%s: spoiled", brief(x))
 		}
-		spoil(alone)
+		samples.SpoilProgram(alone)
 		if again := lowered(t, x); wholly(copied(again)) != before || !plan.Equal(again, q) {
 			t.Errorf("%s: another answer", brief(x))
 		}

@@ -9,22 +9,8 @@ import (
 
 	"cartouche/api"
 	"cartouche/plan"
+	"cartouche/samples"
 )
-
-// rich is a valid program that has each operation, Jumps and rows among them. Its blocks: 0 and 3 enums, 1 and 2 messages.
-func rich() plan.Program {
-	return plan.Program{Blocks: []plan.Block{
-		{Rows: rows("0 0; 5 0; 2147483647 0")},
-		{
-			Dec: steps(`Tag; Case 8 6; Read Enum; Sym 0; Set 1; Go 0; Jump 21; Read String; Clear 2; Clear 3; Add 2; Go 13; Jump 20; Msg 3 1 0; Msg 4 2 1; Msg 5 1 2; Row 6 Enum 4; Row 7 Int32 0; Pair 8 String Message 2; Pair 9 Bool Enum 3;
-				Pair 10 Int64 Bytes 0; Keep; ReadSet Double 11; ReadAdd Enum 12; Go 25; Go 0`),
-			Enc:  steps(`Has 1 3 Enum; Put 8; Val Enum; Has 2 5 0; Put 18; Sub 2; Each 26 Message 1; Each 32 Enum 3; Each 42 Bytes 0; Run 50 Enum; Run 58 Float; Pairs 66 String Message 2; Pairs 74 Bool Enum 0; Pairs 82 Sint32 Int32 0; Rest; PutVal 93 Float; End`),
-			Rows: rows("8 13; 9 25; 10 14; 21 20; 4294967293 22"),
-		},
-		{Dec: steps("Tag; Go 0"), Enc: steps("End")},
-		{Rows: rows("7 0")},
-	}}
-}
 
 // eachNumber goes through a step's numbers.
 func eachNumber(look func(number func(*plan.Ins) *int)) {
@@ -45,7 +31,7 @@ func changed(t *testing.T, what string, want bool, change func(b []plan.Block)) 
 
 // least is a program of a message that has these steps alone, a message without fields (1) and an enum (2).
 func least(dec, enc, row string) plan.Program {
-	return plan.Program{Blocks: []plan.Block{{Dec: steps(dec), Enc: steps(enc), Rows: rows(row)}, {Dec: steps("Tag; Go 0"), Enc: steps("End")}, {Rows: rows("0 0")}}}
+	return plan.Program{Blocks: []plan.Block{samples.Block(dec, enc, row), block("Tag; Go 0", "End"), {Rows: rows("0 0")}}}
 }
 
 // reading looks at a message whose Dec has a step between Tag, at place 0, and four others.

@@ -54,6 +54,22 @@ func RoomyProgram(p api.Program) api.Program {
 	return out
 }
 
+// SpoilProgram writes something into all memory of a program's steps and rows, spare room too.
+func SpoilProgram(p api.Program) {
+	Laid{
+		func(l *[]api.Block) {},
+		func(l *[]api.Ins) { spoil(*l, api.Ins{Op: 99, A: 99, B: 99, C: 99, D: 99}) },
+		func(l *[]api.Line) { spoil(*l, api.Line{Tag: 99, To: 99}) },
+	}.Program(&p)
+}
+
+func spoil[T any](l []T, with T) {
+	l = l[:cap(l)]
+	for i := range l {
+		l[i] = with
+	}
+}
+
 // SharesProgram tells whether two lists of a program share memory, spare room too, or one of them with a list of the others.
 func SharesProgram(answer api.Program, given ...api.Program) bool {
 	again := 0

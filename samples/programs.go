@@ -9,7 +9,26 @@ import (
 
 // Program tells a valid program in which steps stand as they come, with Jumps and rows too; its block 0 is a message's.
 func (m *Maker) Program() api.Program {
-	k := stepMaker{Maker: m, messages: []int{0}}
+	return m.programOf(stepMaker{
+		reads:  []int{plan.Case, plan.Case, plan.Jump, plan.Go, plan.Read, plan.Read, plan.Sym, plan.Set, plan.Add, plan.Clear, plan.Msg, plan.Row, plan.Pair, plan.Keep, plan.ReadSet, plan.ReadAdd},
+		writes: []int{plan.Has, plan.Has, plan.Put, plan.Put, plan.Val, plan.Val, plan.Sub, plan.Each, plan.Run, plan.Pairs, plan.Rest, plan.PutVal},
+		number: m.FieldNumber,
+		wires:  []int{api.Varint, api.Fix64, api.Chunk, api.Fix32},
+	})
+}
+
+// Knotted tells such a program of few operations, most of which go elsewhere or stand next to ones that can be made one with them, and of few tags.
+func (m *Maker) Knotted() api.Program {
+	return m.programOf(stepMaker{
+		reads:  Pick(m, []int{plan.Case, plan.Case, plan.Go, plan.Read, plan.Set, plan.Add}, []int{plan.Case, plan.Jump, plan.Go, plan.Go, plan.Read, plan.Set}, []int{plan.Case, plan.Case, plan.Case, plan.Go, plan.Keep}),
+		writes: []int{plan.Has, plan.Put, plan.Val},
+		number: func() int { return 1 + m.Below(4) },
+		wires:  []int{api.Varint},
+	})
+}
+
+func (m *Maker) programOf(k stepMaker) api.Program {
+	k.Maker, k.messages = m, []int{0}
 	count := 1 + m.Below(5)
 	for i := 1; i < count; i++ {
 		if m.Below(3) == 0 {
@@ -29,10 +48,13 @@ func (m *Maker) Program() api.Program {
 	return p
 }
 
-// stepMaker makes the steps of a program whose blocks are of these sorts.
+// stepMaker makes the steps of a program whose blocks are of these sorts, of some operations, numbers of fields and wire kinds.
 type stepMaker struct {
 	*Maker
 	enums, messages []int
+	reads, writes   []int
+	number          func() int
+	wires           []int
 }
 
 // rising tells some of these numbers, in order and each once: at least one.
@@ -75,7 +97,7 @@ func (k *stepMaker) jumpRows(dec []api.Ins) []api.Line {
 func (k *stepMaker) ahead(at, count int) int { return at + 1 + k.Below(count-at-1) }
 
 func (k *stepMaker) tag() int {
-	return k.FieldNumber()*8 + Pick(k.Maker, api.Varint, api.Fix64, api.Chunk, api.Fix32)
+	return k.number()*8 + Pick(k.Maker, k.wires...)
 }
 
 func (k *stepMaker) single() int { return 1 + k.Below(api.Enum) }
@@ -109,8 +131,8 @@ func (k *stepMaker) dec() []api.Ins {
 }
 
 func (k *stepMaker) reading(at, count int) api.Ins {
-	field := k.FieldNumber()
-	switch op := Pick(k.Maker, plan.Case, plan.Case, plan.Jump, plan.Go, plan.Read, plan.Read, plan.Sym, plan.Set, plan.Add, plan.Clear, plan.Msg, plan.Row, plan.Pair, plan.Keep, plan.ReadSet, plan.ReadAdd); op {
+	field := k.number()
+	switch op := Pick(k.Maker, k.reads...); op {
 	case plan.Case:
 		return api.Ins{Op: op, A: k.tag(), B: k.ahead(at, count)}
 	case plan.Jump:
@@ -152,9 +174,9 @@ func (k *stepMaker) enc() []api.Ins {
 }
 
 func (k *stepMaker) writing(at, count int) api.Ins {
-	switch op := Pick(k.Maker, plan.Has, plan.Has, plan.Put, plan.Put, plan.Val, plan.Val, plan.Sub, plan.Each, plan.Run, plan.Pairs, plan.Rest, plan.PutVal); op {
+	switch op := Pick(k.Maker, k.writes...); op {
 	case plan.Has:
-		return api.Ins{Op: op, A: k.FieldNumber(), B: k.ahead(at, count), C: k.single() * k.Below(2)}
+		return api.Ins{Op: op, A: k.number(), B: k.ahead(at, count), C: k.single() * k.Below(2)}
 	case plan.Put:
 		return api.Ins{Op: op, A: k.tag()}
 	case plan.Val:

@@ -93,6 +93,9 @@ func TestPrograms(t *testing.T) {
 				counts[s.Op]++
 			}
 		}
+		if q := m.Knotted(); !plan.Valid(q) || len(q.Blocks[0].Dec) == 0 {
+			t.Fatalf("not valid: %+v", q)
+		}
 		if plan.Valid(m.BentProgram(p)) {
 			bent++
 		}
@@ -107,6 +110,27 @@ func TestPrograms(t *testing.T) {
 	}
 	if bent < 300 || bent > 2000 || wild > 1000 {
 		t.Errorf("%d and %d are valid", bent, wild)
+	}
+}
+
+// TestWritten reads steps and rows as the document writes them.
+func TestWritten(t *testing.T) {
+	got := samples.Block("Tag; Case 8 2; Pair 3 String Message 1;Go 0", "; Has 1 1 Int32; End;", "8 2; 4294967293 3")
+	want := api.Block{
+		Dec:  []api.Ins{{Op: plan.Tag}, {Op: plan.Case, A: 8, B: 2}, {Op: plan.Pair, A: 3, B: api.String, C: api.Message, D: 1}, {Op: plan.Go}},
+		Enc:  []api.Ins{{Op: plan.Has, A: 1, B: 1, C: api.Int32}, {Op: plan.End}},
+		Rows: []api.Line{{Tag: 8, To: 2}, {Tag: 4294967293, To: 3}},
+	}
+	if samples.ToldBlock(got) != samples.ToldBlock(want) || !plan.Valid(samples.EveryStep()) {
+		t.Errorf("%+v, want %+v", got, want)
+	}
+	for i, name := range samples.Operations() {
+		if l := samples.Steps(name); len(l) != 1 || l[0].Op != plan.Tag+i {
+			t.Errorf("%s: %v", name, l)
+		}
+	}
+	if kinds := samples.Kinds(); len(kinds) != api.Message || kinds[api.Bytes-1] != "Bytes" {
+		t.Errorf("kinds %v", kinds)
 	}
 }
 

@@ -57,6 +57,14 @@ const (
 	Number = 7
 )
 
+// Files is a bundle of two files: the messages A, B, B.C and the enum E, in that order.
+func Files() []api.Source {
+	return []api.Source{
+		{Name: "a", Text: `import "b"; message A { B b = 1; B.C c = 2; repeated int32 l = 3; repeated bool p = 4 [packed = false]; oneof o { A a = 5; E e = 6; } optional float f = 7; reserved 9; }`},
+		{Name: "b", Text: "message B { message C { map<bool, string> m = 1; map<int32, B> n = 2; } } enum E { X = 0; Y = 7; }"},
+	}
+}
+
 // Single tells a table in which the type Around has a field of that kind and label alone.
 func Single(kind, label, key int) api.Table {
 	f := api.FieldType{Name: "f", Number: Number, Kind: kind, Label: label, Key: key}
