@@ -1,7 +1,6 @@
 package interp
 
 import (
-	"cmp"
 	"slices"
 
 	"cartouche/api"
@@ -30,23 +29,23 @@ func (c *cursor) fill(x api.Type, m *api.Msg) {
 func (c *cursor) putValue(x api.Type, f api.FieldType, m *api.Msg) {
 	switch f.Label {
 	case api.Plain, api.Optional:
-		own := present(m, f.Number)
+		own := fields.Present(m, f.Number)
 		if f.Kind == api.Message {
 			c.merge(f, own)
 			return
 		}
 		own.Vals = []api.Val{c.value(f.Kind, f.Ref)}
 	case api.Repeated, api.Packed:
-		own := present(m, f.Number)
+		own := fields.Present(m, f.Number)
 		own.Vals = append(own.Vals, c.value(f.Kind, f.Ref))
 	case api.Map:
 		// Behind all others: were each key put at its place at once, many keys would be moved for each.
-		own := present(m, f.Number)
+		own := fields.Present(m, f.Number)
 		key, val := c.pair(f)
 		own.Keys, own.Vals = append(own.Keys, key), append(own.Vals, val)
 	case api.Member:
 		dropMembers(x, f.Oneof, m)
-		present(m, f.Number).Vals = []api.Val{c.value(f.Kind, f.Ref)}
+		fields.Present(m, f.Number).Vals = []api.Val{c.value(f.Kind, f.Ref)}
 	}
 }
 
@@ -59,20 +58,11 @@ func (c *cursor) merge(f api.FieldType, own *api.Field) {
 }
 
 func (c *cursor) putRow(f api.FieldType, m *api.Msg) {
-	own := present(m, f.Number)
+	own := fields.Present(m, f.Number)
 	row := c.chunk()
 	for !row.isAtEnd() {
 		own.Vals = append(own.Vals, row.value(f.Kind, f.Ref))
 	}
-}
-
-// present tells a message's field with that number: if it was not there, it is now, at its place. It holds till the message has another one.
-func present(m *api.Msg, number int) *api.Field {
-	i, ok := slices.BinarySearchFunc(m.Fields, number, func(f api.Field, n int) int { return cmp.Compare(f.Number, n) })
-	if !ok {
-		m.Fields = slices.Insert(m.Fields, i, api.Field{Number: number})
-	}
-	return &m.Fields[i]
 }
 
 // dropMembers takes out what is there of a oneof.
