@@ -1,7 +1,6 @@
 package interp_test
 
 import (
-	"encoding/binary"
 	"slices"
 	"testing"
 
@@ -22,19 +21,6 @@ func last(t *testing.T, b []byte) api.Entry {
 		t.Fatalf("% d: error %d", b, e)
 	}
 	return l[0]
-}
-
-// entryBytes tells what stands behind an entry's tag.
-func entryBytes(x api.Entry) []byte {
-	switch x.Kind {
-	case api.Fix64:
-		return binary.LittleEndian.AppendUint64(nil, x.N)
-	case api.Fix32:
-		return binary.LittleEndian.AppendUint32(nil, uint32(x.N))
-	case api.Chunk:
-		return chunk(x.B)
-	}
-	return digits(x.N)
 }
 
 // readAgain reads the chapter's words of reading a second time: each fault is handed up, and each thing is put at its place at once.
@@ -228,7 +214,7 @@ func writeAgain(t api.Table, index int, m api.Msg) []byte {
 		}
 	}
 	for _, x := range m.Unknown {
-		out = all(out, tag(x.Number, x.Kind), entryBytes(x))
+		out = all(out, tag(x.Number, x.Kind), samples.Behind(x))
 	}
 	return out
 }

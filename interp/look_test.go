@@ -2,7 +2,6 @@ package interp_test
 
 import (
 	"bytes"
-	"encoding/binary"
 	"testing"
 
 	"cartouche/api"
@@ -18,6 +17,8 @@ var (
 	unknown, text, varint = samples.Unknown, samples.Chunk, samples.Varint
 	told, shortly         = samples.Told, samples.Shortly
 	ownWire               = samples.Wire
+	all, digits, inside   = samples.Join, samples.Digits, samples.Inside
+	tag, chunk            = samples.Tag, samples.Framed
 )
 
 // In the tables that single tells.
@@ -25,26 +26,6 @@ const (
 	around = samples.Around
 	number = samples.Number
 )
-
-// all joins bytes.
-func all(l ...[]byte) []byte { return bytes.Join(l, nil) }
-
-func digits(n uint64) []byte { return binary.AppendUvarint(nil, n) }
-
-func tag(number, kind int) []byte { return digits(uint64(number)*8 + uint64(kind)) }
-
-func chunk(l ...[]byte) []byte {
-	b := all(l...)
-	return append(digits(uint64(len(b))), b...)
-}
-
-// inside tells bytes within so many messages, each one in the field of that number.
-func inside(number, around int, b []byte) []byte {
-	for range around {
-		b = all(tag(number, api.Chunk), chunk(b))
-	}
-	return b
-}
 
 func lookAtRead(t *testing.T, x api.Table, index int, b []byte, want api.Msg) {
 	t.Helper()

@@ -213,7 +213,7 @@ func TestP9_1Unknown(t *testing.T) {
 	l := []api.Entry{varint(4, 0), varint(3, 7), text(1, "\xff"), {Number: 1, Kind: api.Fix32, N: 1<<32 - 1}, {Number: 2, Kind: api.Fix64, N: 1<<64 - 1}, varint(4, 0), text(api.MaxNumber, ""), varint(api.MaxNumber, 1<<64-1), text(4, "abc"), {Number: 3, Kind: api.Fix32}}
 	var b, mixed []byte
 	for i, x := range l {
-		own := all(tag(x.Number, x.Kind), entryBytes(x))
+		own := all(tag(x.Number, x.Kind), samples.Behind(x))
 		b = all(b, own)
 		mixed = all(mixed, own, tag(1, 0), []byte{byte(i)})
 	}

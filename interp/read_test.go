@@ -2,7 +2,6 @@ package interp_test
 
 import (
 	"bytes"
-	"encoding/binary"
 	"math"
 	"slices"
 	"testing"
@@ -66,26 +65,17 @@ func TestErrArg(t *testing.T) {
 
 // bare tells the bytes of a value without its tag; of a message those of its field 1 alone.
 func bare(kind int, v api.Val) []byte {
-	switch {
-	case kind == api.Message:
-		var b []byte
-		for _, f := range v.M[0].Fields {
-			b = all(tag(1, api.Varint), digits(f.Vals[0].N))
-		}
-		for _, x := range v.M[0].Unknown {
-			b = all(b, tag(x.Number, x.Kind), digits(x.N))
-		}
-		return chunk(b)
-	case kind == api.String || kind == api.Bytes:
-		return chunk(v.B)
-	case kind == api.Sint32 || kind == api.Sint64:
-		return digits(v.N<<1 ^ uint64(int64(v.N)>>63))
-	case ownWire(kind) == api.Fix32:
-		return binary.LittleEndian.AppendUint32(nil, uint32(v.N))
-	case ownWire(kind) == api.Fix64:
-		return binary.LittleEndian.AppendUint64(nil, v.N)
+	if kind != api.Message {
+		return samples.Bare(kind, v)
 	}
-	return digits(v.N)
+	var b []byte
+	for _, f := range v.M[0].Fields {
+		b = all(tag(1, api.Varint), digits(f.Vals[0].N))
+	}
+	for _, x := range v.M[0].Unknown {
+		b = all(b, tag(x.Number, x.Kind), digits(x.N))
+	}
+	return chunk(b)
 }
 
 // eachField goes through the kinds and labels that a field can have.

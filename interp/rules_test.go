@@ -99,18 +99,11 @@ func TestR1Big(t *testing.T) {
 	}
 }
 
-// roomy tells bytes with spare room behind them.
-func roomy(b []byte) []byte {
-	out := slices.Clone(b)
-	samples.Roomy(&out, 8)
-	return out
-}
-
 func TestR4Arguments(t *testing.T) {
 	m := samples.New(98)
 	for range 1500 {
 		x := m.Table()
-		a, b := samples.WithRoom(m.Message(x, 0, 3)), roomy(m.Bytes(x, 0, 3))
+		a, b := samples.WithRoom(m.Message(x, 0, 3)), samples.Spare(m.Bytes(x, 0, 3))
 		if m.Below(4) == 0 {
 			a = samples.WithRoom(m.Wild(2))
 		}
@@ -131,7 +124,7 @@ func TestR4AnswersAreNew(t *testing.T) {
 			x = wide()
 		}
 		index := slices.IndexFunc(x.Types, func(x api.Type) bool { return !x.Enum })
-		b := roomy(m.Bytes(x, index, 4))
+		b := samples.Spare(m.Bytes(x, index, 4))
 		before := string(b)
 		if got, e := interp.Decode(x, index, b); e == api.OK {
 			if samples.Shares(got, unknown(api.Entry{B: b})) {

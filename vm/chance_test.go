@@ -80,7 +80,7 @@ func (c chance) stepBytes(s, next plan.Ins, tag, within int) []byte {
 	case plan.Pair:
 		return chunk(c.pairBytes(s, within))
 	case plan.Keep:
-		return entryBytes(api.Entry{Kind: tag % 8, N: uint64(c.Below(300)), B: []byte("ab")[:c.Below(3)]})
+		return samples.Behind(api.Entry{Kind: tag % 8, N: uint64(c.Below(300)), B: []byte("ab")[:c.Below(3)]})
 	}
 	return nil
 }
@@ -113,7 +113,7 @@ func (c chance) pairBytes(s plan.Ins, within int) []byte {
 		switch c.Below(8) {
 		case 0:
 			x := c.Entry()
-			out = append(out, all(tag(x.Number, x.Kind), entryBytes(x))...)
+			out = append(out, all(tag(x.Number, x.Kind), samples.Behind(x))...)
 		case 1, 2, 3:
 			out = append(out, all(tag(1, ownWire(s.B)), c.valueBytes(s.B, 0, 0))...)
 		default:
@@ -121,19 +121,6 @@ func (c chance) pairBytes(s plan.Ins, within int) []byte {
 		}
 	}
 	return out
-}
-
-// entryBytes tells what stands behind an entry's tag.
-func entryBytes(x api.Entry) []byte {
-	switch x.Kind {
-	case api.Fix64:
-		return bare(api.Fixed64, num(int64(x.N)))
-	case api.Fix32:
-		return bare(api.Fixed32, num(int64(x.N)))
-	case api.Chunk:
-		return chunk(x.B)
-	}
-	return digits(x.N)
 }
 
 // message tells a message with fields for which a block asks, mostly such as the step behind writes.

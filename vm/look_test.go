@@ -2,7 +2,6 @@ package vm_test
 
 import (
 	"bytes"
-	"encoding/binary"
 	"fmt"
 	"slices"
 	"testing"
@@ -21,7 +20,9 @@ var (
 	unknown, text, varint = samples.Unknown, samples.Chunk, samples.Varint
 	told, shortly         = samples.Told, samples.Shortly
 	steps, block          = samples.Steps, samples.Block
-	ownWire               = samples.Wire
+	ownWire, bare         = samples.Wire, samples.Bare
+	all, digits, inside   = samples.Join, samples.Digits, samples.Inside
+	tag, chunk            = samples.Tag, samples.Framed
 )
 
 // The blocks of the programs that some steps are laid in: those steps, an enum with 3 and 5, and a message (field 1 an Int32, field 2 one of its own).
@@ -93,26 +94,6 @@ func brief(x any) string {
 }
 
 func short(b []byte) string { return fmt.Sprintf("% d", b[:min(len(b), 100)]) }
-
-// all joins bytes.
-func all(l ...[]byte) []byte { return bytes.Join(l, nil) }
-
-func digits(n uint64) []byte { return binary.AppendUvarint(nil, n) }
-
-func tag(number, kind int) []byte { return digits(uint64(number)*8 + uint64(kind)) }
-
-func chunk(l ...[]byte) []byte {
-	b := all(l...)
-	return append(digits(uint64(len(b))), b...)
-}
-
-// inside tells bytes within so many messages, each one in the field of that number.
-func inside(number, around int, b []byte) []byte {
-	for range around {
-		b = all(tag(number, api.Chunk), chunk(b))
-	}
-	return b
-}
 
 // lookAtRead sees that bytes are read as a message, and in so many steps.
 func lookAtRead(t *testing.T, p plan.Program, index int, b []byte, want api.Msg, steps int) {

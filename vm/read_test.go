@@ -159,23 +159,6 @@ func TestP15_1Read(t *testing.T) {
 	lookAtReads(t, []read{{"Read Enum; Set 1", []byte{8, 4}, msg(field(1, num(4))), 5}, {"Read Fixed32; Set 1", []byte{8, 1, 0, 0, 0}, msg(field(1, num(1))), 5}, {"Read Bytes; Set 1", []byte{13, 1, 9}, msg(field(1, str("\t"))), 5}})
 }
 
-// bare tells what stands behind the tag of a value that has no parts, by the document's words.
-func bare(kind int, v api.Val) []byte {
-	switch kind {
-	case api.Sint32, api.Sint64:
-		return digits(v.N<<1 ^ uint64(int64(v.N)>>63))
-	case api.String, api.Bytes:
-		return chunk(v.B)
-	}
-	switch ownWire(kind) {
-	case api.Fix32:
-		return []byte{byte(v.N), byte(v.N >> 8), byte(v.N >> 16), byte(v.N >> 24)}
-	case api.Fix64:
-		return all(bare(api.Fixed32, v), bare(api.Fixed32, api.Val{N: v.N >> 32}))
-	}
-	return digits(v.N)
-}
-
 // TestP15_1Value: the machine's value is none at first, in each message, and is changed by what reads one alone, and kept from entry to entry.
 func TestP15_1Value(t *testing.T) {
 	five := num(5)

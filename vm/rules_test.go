@@ -114,13 +114,6 @@ func TestR1BigWriting(t *testing.T) {
 	}
 }
 
-// roomy tells bytes with spare room behind them.
-func roomy(b []byte) []byte {
-	out := slices.Clone(b)
-	samples.Roomy(&out, 8)
-	return out
-}
-
 // given is a program with bytes and a message for its block 0, each with spare room.
 func given(t *testing.T, m *samples.Maker) (plan.Program, []byte, api.Msg) {
 	t.Helper()
@@ -130,7 +123,7 @@ func given(t *testing.T, m *samples.Maker) (plan.Program, []byte, api.Msg) {
 	if m.Below(4) == 0 {
 		b, a = m.Bent(b), m.Wild(2)
 	}
-	return p, roomy(b), samples.WithRoom(a)
+	return p, samples.Spare(b), samples.WithRoom(a)
 }
 
 // TestR3R4Arguments sees that nothing that is handed in is changed, spare room too, whether it is refused or not.
@@ -171,7 +164,7 @@ func TestR4AnswersAreNew(t *testing.T) {
 		{"Read Bytes; Add 1; Add 1; Set 2; Add 3; Keep; Msg 4 2 1; Pair 5 Bool Message 2", []byte{10, 3, 97, 98, 99, 1, 97, 2, 8, 1, 4, 18, 2, 8, 1}},
 		{"ReadAdd Bytes 1; Add 1; ReadSet String 2; Set 3; Row 6 Bool 0; Pair 4 String Bytes 0; Pair 4 String Bytes 0", []byte{8, 3, 97, 98, 99, 1, 97, 2, 1, 1, 6, 10, 1, 97, 18, 1, 98, 6, 10, 1, 97, 18, 1, 99}},
 	} {
-		p, b := reading(t, x.between), roomy(x.b)
+		p, b := reading(t, x.between), samples.Spare(x.b)
 		got, e := vm.Decode(p, tried, b)
 		if e != api.OK {
 			t.Errorf("%s: error %d", x.between, e)

@@ -179,6 +179,9 @@ func TestP15_1PairMixed(t *testing.T) {
 		{"Pair 4 Uint64 Bool 0; Pair 4 Int64 Bool 0; Pair 4 Uint64 Int32 0", all([]byte{8, 2, 8, 5}, chunk([]byte{8}, longest), []byte{4, 8, 5, 16, 9}), msg(pairs(4, num(-1), zero, num(5), num(9))), 6},
 		{"Pair 4 Int32 Bool 0; Pair 4 Bool Bool 0; Pair 4 Int32 Bool 0", []byte{8, 2, 8, 7, 2, 8, 1, 2, 8, 2}, msg(pairs(4, num(2), zero, seven, zero, one, zero)), 6},
 	})
+	// Each second one rises.
+	steps := valid(t, around(block("Tag; Case 8 4; Pair 4 Int32 Int32 0; Go 0; Pair 4 Bool Bool 0; Go 0", "End", "")))
+	lookAtRead(t, steps, tried, all([]byte{8, 2, 8, 7, 16, 2, 8, 1, 8}, chunk([]byte{8}, digits(1<<64-5)), []byte{8, 4, 8, 1, 16, 9}), msg(pairs(4, num(-5), zero, seven, zero, one, num(9))), 4*4+1)
 	// A single key that is refused, and many.
 	lookAtRead(t, valid(t, around(block("Tag; Case 8 4; Pair 4 Int32 Bool 0; Go 0; Pair 4 Bool Int32 0; Go 0", "End", ""))), tried, []byte{8, 2, 8, 7, 8, 2, 8, 5, 16, 2, 8, 1, 16, 2, 8, 0, 16, 4, 8, 1, 16, 3}, msg(pairs(4, num(5), zero, seven, zero, zero, zero, one, num(3))), 4*5+1)
 }
