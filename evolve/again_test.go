@@ -127,7 +127,7 @@ func TestP18_1Chance(t *testing.T) {
 	counts := map[[2]int]int{}
 	classes := map[int]int{}
 	for range 20000 {
-		old, new := twoTables(m)
+		old, new := m.TwoTables()
 		want := (&reader{old: old, new: new}).read()
 		lookAtDiff(t, fmt.Sprintf("%s\nbecomes\n%s", brief(old), brief(new)), old, new, want...)
 		for _, c := range want {
@@ -167,7 +167,7 @@ func TestP18_2Chance(t *testing.T) {
 	m := samples.New(1812)
 	counts := map[string]int{}
 	for range 4000 {
-		old, new := twoTables(m)
+		old, new := m.TwoTables()
 		for _, x := range slices.Concat(old.Types, new.Types, []api.Type{messageOf("none")}) {
 			var want []int
 			wantE := api.ErrNone

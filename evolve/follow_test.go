@@ -84,7 +84,7 @@ func TestT5P18_3Additive(t *testing.T) {
 	m := samples.New(1831)
 	counts := map[int]int{}
 	for range 15000 {
-		old, new := twoTables(m)
+		old, new := m.TwoTables()
 		a, b := facts(old), facts(new)
 		want := 0
 		switch {
@@ -122,7 +122,7 @@ func TestP18_3Itself(t *testing.T) {
 		look(x)
 	}
 	for range 2000 {
-		look(someTable(m))
+		look(m.SomeTable())
 	}
 }
 
@@ -131,7 +131,7 @@ func TestP18_3Order(t *testing.T) {
 	m := samples.New(1833)
 	others := 0
 	for range 3000 {
-		old, new := twoTables(m)
+		old, new := m.TwoTables()
 		x := m.Reordered(old)
 		lookAtDiff(t, brief(old), old, x)
 		lookAtDiff(t, brief(x), x, old)
@@ -152,7 +152,7 @@ func TestP18_3Back(t *testing.T) {
 	m := samples.New(1834)
 	counts := map[int]int{}
 	for range 10000 {
-		old, new := twoTables(m)
+		old, new := m.TwoTables()
 		there, back := classOf(t, old, new), classOf(t, new, old)
 		counts[there]++
 		if there == evolve.Additive && back != evolve.Breaking || there == evolve.Same && back != evolve.Same {
@@ -169,7 +169,7 @@ func TestP18_3Chain(t *testing.T) {
 	m := samples.New(1835)
 	chains, wholes := 0, map[int]int{}
 	for range 8000 {
-		a := someTable(m)
+		a := m.SomeTable()
 		b := next(m, a)
 		c := next(m, b)
 		if classOf(t, a, b) > evolve.Additive || classOf(t, b, c) > evolve.Additive {
@@ -191,7 +191,7 @@ func TestP18_3Chain(t *testing.T) {
 func next(m *samples.Maker, x api.Table) api.Table {
 	switch m.Below(6) {
 	case 0:
-		return goodOne(func() api.Table { return m.Evolved(x) })
+		return samples.GoodTable(func() api.Table { return m.Evolved(x) })
 	case 1:
 		return m.Reordered(x)
 	case 2:
@@ -204,7 +204,7 @@ func next(m *samples.Maker, x api.Table) api.Table {
 func TestP18_3Fresh(t *testing.T) {
 	m := samples.New(1836)
 	for range 3000 {
-		old, new := twoTables(m)
+		old, new := m.TwoTables()
 		l, class, _ := evolve.Diff(old, new)
 		if class > evolve.Additive {
 			continue

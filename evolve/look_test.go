@@ -92,37 +92,3 @@ func told(old, new api.Table, name string) string {
 	numbers, e2 := evolve.Fresh(old, new, name)
 	return fmt.Sprint(l, class, int(e), numbers, int(e2))
 }
-
-// goodOne tells the first good table of those that are made.
-func goodOne(make func() api.Table) api.Table {
-	for {
-		if x := make(); table.Good(x) {
-			return x
-		}
-	}
-}
-
-// someTable tells a good table.
-func someTable(m *samples.Maker) api.Table {
-	return samples.Pick(m, m.Rich, m.Table, m.Rich, wide)()
-}
-
-// twoTables tells good tables that have much in common, or little.
-func twoTables(m *samples.Maker) (old, new api.Table) {
-	old = someTable(m)
-	switch m.Below(8) {
-	case 0:
-		return old, someTable(m)
-	case 1:
-		return old, m.Grown(old, 2)
-	case 2:
-		return m.Grown(old, 2), old
-	case 3:
-		return old, m.Reordered(m.Grown(old, 1))
-	}
-	new = goodOne(func() api.Table { return m.Evolved(old) })
-	if m.Below(3) == 0 {
-		new = m.Reordered(new)
-	}
-	return old, new
-}

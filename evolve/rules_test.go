@@ -15,30 +15,16 @@ import (
 	"cartouche/table"
 )
 
-// anyTable tells a table that may not be good.
-func anyTable(m *samples.Maker) api.Table {
-	return samples.Pick(m, m.BentTable, m.WildTable, m.Rich, func() api.Table { return m.Spoiled(m.Table()) }, func() api.Table { return m.Evolved(m.Rich()) })()
-}
-
-// anyName tells a name of a table, one like it, or none.
-func anyName(m *samples.Maker, x api.Table) string {
-	if len(x.Types) == 0 {
-		return m.Word("M")
-	}
-	name := samples.Pick(m, x.Types...).Name
-	return samples.Pick(m, name, m.Word(name))
-}
-
 // TestR1R2 has tables that are not good, and any names and numbers: none panics, and of a table that is not good each is refused.
 func TestR1R2(t *testing.T) {
 	m := samples.New(1841)
 	counts := map[string]int{}
 	for range 8000 {
-		old, new := anyTable(m), anyTable(m)
+		old, new := m.AnyTable(), m.AnyTable()
 		if table.Good(old) && m.Below(3) == 0 {
 			new = m.Evolved(old)
 		}
-		name := anyName(m, samples.Pick(m, old, new))
+		name := m.AnyName(samples.Pick(m, old, new))
 		isGood := table.Good(old) && table.Good(new)
 		counts[fmt.Sprint(table.Good(old), table.Good(new))]++
 		l, class, e := evolve.Diff(old, new)
@@ -128,12 +114,12 @@ func TestR1Full(t *testing.T) {
 func TestR3R4Arguments(t *testing.T) {
 	m := samples.New(1842)
 	for range 2000 {
-		old, new := twoTables(m)
+		old, new := m.TwoTables()
 		if m.Below(3) == 0 {
-			old, new = anyTable(m), anyTable(m)
+			old, new = m.AnyTable(), m.AnyTable()
 		}
 		old, new = samples.RoomyTable(old), samples.RoomyTable(new)
-		name := anyName(m, samples.Pick(m, old, new))
+		name := m.AnyName(samples.Pick(m, old, new))
 		one, two := samples.WhollyTable(old), samples.WhollyTable(new)
 		first := told(old, new, name)
 		if samples.WhollyTable(old) != one || samples.WhollyTable(new) != two {
@@ -158,9 +144,9 @@ func within(s, whole string) bool {
 func TestR4AnswersAreNew(t *testing.T) {
 	m := samples.New(1843)
 	for range 1500 {
-		old, new := twoTables(m)
+		old, new := m.TwoTables()
 		one, two := samples.WhollyTable(old), samples.WhollyTable(new)
-		name := anyName(m, new)
+		name := m.AnyName(new)
 		a, _, _ := evolve.Diff(old, new)
 		b, _, _ := evolve.Diff(old, new)
 		c, _ := evolve.Fresh(old, new, name)
@@ -208,11 +194,11 @@ func TestR4NotKept(t *testing.T) {
 func TestR4EmptyLists(t *testing.T) {
 	m := samples.New(1844)
 	for range 2000 {
-		old, new := twoTables(m)
+		old, new := m.TwoTables()
 		if m.Below(3) == 0 {
-			old, new = anyTable(m), anyTable(m)
+			old, new = m.AnyTable(), m.AnyTable()
 		}
-		name := anyName(m, samples.Pick(m, old, new))
+		name := m.AnyName(samples.Pick(m, old, new))
 		want := told(old, new, name)
 		for _, got := range []string{told(samples.EmptiedTable(old), new, name), told(old, samples.EmptiedTable(new), name), told(samples.EmptiedTable(old), samples.EmptiedTable(new), name)} {
 			if got != want {
@@ -232,8 +218,8 @@ func TestR5Many(t *testing.T) {
 	var rows []row
 	var want []string
 	for range 40 {
-		old, new := twoTables(m)
-		r := row{old, new, anyName(m, new)}
+		old, new := m.TwoTables()
+		r := row{old, new, m.AnyName(new)}
 		rows, want = append(rows, r), append(want, told(r.old, r.new, r.name))
 	}
 	var group sync.WaitGroup

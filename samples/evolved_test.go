@@ -98,3 +98,42 @@ func TestEvolved(t *testing.T) {
 		t.Errorf("%d are good, %d others than before", good, others)
 	}
 }
+
+// TestTwoTables sees that both are good, and alike or not.
+func TestTwoTables(t *testing.T) {
+	m := samples.New(14)
+	alike := 0
+	for range 1500 {
+		x, y := m.TwoTables()
+		if !table.Good(x) || !table.Good(y) || !table.Good(m.SomeTable()) {
+			t.Fatalf("%+v\nand %+v", x, y)
+		}
+		if slices.ContainsFunc(x.Types, func(a api.Type) bool {
+			return slices.ContainsFunc(y.Types, func(b api.Type) bool { return samples.SameType(a, b) })
+		}) {
+			alike++
+		}
+	}
+	if alike < 800 || alike == 1500 {
+		t.Errorf("%d have a type in common", alike)
+	}
+}
+
+// TestAnyTable sees that there are good tables and others, and names of types and others.
+func TestAnyTable(t *testing.T) {
+	m := samples.New(15)
+	good, named := 0, 0
+	for range 1500 {
+		x := m.AnyTable()
+		if table.Good(x) {
+			good++
+		}
+		name := m.AnyName(x)
+		if slices.ContainsFunc(x.Types, func(y api.Type) bool { return y.Name == name }) {
+			named++
+		}
+	}
+	if good < 400 || good > 1100 || named < 400 || named > 1300 {
+		t.Errorf("%d are good, %d names are a type's", good, named)
+	}
+}
