@@ -5,6 +5,7 @@ import (
 	"testing"
 
 	"cartouche/api"
+	"cartouche/check"
 	"cartouche/model"
 	"cartouche/plan"
 	"cartouche/samples"
@@ -29,6 +30,18 @@ func TestTables(t *testing.T) {
 		}
 		if x := m.Rich(); !table.Good(x) {
 			t.Fatalf("not good: %+v", x)
+		}
+	}
+}
+
+// TestFiles sees that what is compiled of a table that was written as a file is the table.
+func TestFiles(t *testing.T) {
+	m := samples.New(21)
+	for range 1000 {
+		x := m.SomeTable()
+		file := samples.File(x)
+		if y, fault := check.Compile([]api.Source{{Name: "a", Text: file}}); fault.Code != api.OK || !samples.SameTable(x, y) {
+			t.Fatalf("%+v\nby %s\nis %+v, fault %v", x, file, y, fault)
 		}
 	}
 }

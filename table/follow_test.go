@@ -11,80 +11,12 @@ import (
 	"cartouche/table"
 )
 
-// text writes a good table as a file, declaration by declaration from an index on, as long as they stand within that name; it tells the index behind them.
-func text(t api.Table, at int, around string) (string, int) {
-	var b strings.Builder
-	for at < len(t.Types) && strings.HasPrefix(t.Types[at].Name, around) {
-		x := t.Types[at]
-		own := strings.TrimPrefix(x.Name, around)
-		if x.Enum {
-			fmt.Fprintf(&b, "enum %s {", own)
-			for _, s := range x.Symbols {
-				fmt.Fprintf(&b, " %s = %d;", s.Name, s.Number)
-			}
-			at++
-		} else {
-			fmt.Fprintf(&b, "message %s { %s", own, members(t, x))
-			inner, next := text(t, at+1, x.Name+".")
-			b.WriteString(inner)
-			at = next
-		}
-		b.WriteString(" }\n")
-	}
-	return b.String(), at
-}
-
-func members(t api.Table, x api.Type) string {
-	var b strings.Builder
-	for _, r := range x.Reserved {
-		fmt.Fprintf(&b, "reserved %d to %d; ", r.Low, r.High)
-	}
-	for i, o := range x.Oneofs {
-		fmt.Fprintf(&b, "oneof %s { ", o)
-		for _, f := range x.Fields {
-			if f.Label == api.Member && f.Oneof == i {
-				b.WriteString(fieldText(t, f))
-			}
-		}
-		b.WriteString("} ")
-	}
-	for _, f := range x.Fields {
-		if f.Label != api.Member {
-			b.WriteString(fieldText(t, f))
-		}
-	}
-	return b.String()
-}
-
-func fieldText(t api.Table, f api.FieldType) string {
-	kinds := strings.Fields("- bool int32 int64 uint32 uint64 sint32 sint64 fixed32 fixed64 sfixed32 sfixed64 float double string bytes")
-	written := ""
-	if f.Kind >= api.Enum {
-		written = t.Types[f.Ref].Name
-	} else {
-		written = kinds[f.Kind]
-	}
-	rest := fmt.Sprintf(" %s = %d", f.Name, f.Number)
-	numeric := f.Kind <= api.Double || f.Kind == api.Enum
-	switch {
-	case f.Label == api.Map:
-		return "map<" + kinds[f.Key] + ", " + written + ">" + rest + "; "
-	case f.Label == api.Repeated && numeric:
-		return "repeated " + written + rest + " [packed = false]; "
-	case f.Label == api.Repeated || f.Label == api.Packed:
-		return "repeated " + written + rest + "; "
-	case f.Label == api.Optional && f.Kind != api.Message:
-		return "optional " + written + rest + "; "
-	}
-	return written + rest + "; "
-}
-
 // TestP7_5Compiled has tables by chance written as files: what is compiled of them is good, and the table.
 func TestP7_5Compiled(t *testing.T) {
 	m := samples.New(75)
 	for range 1500 {
 		x := m.Rich()
-		file, _ := text(x, 0, "")
+		file := samples.File(x)
 		got, fault := check.Compile([]api.Source{{Name: "a", Text: file}})
 		if fault.Code != api.OK || !samples.SameTable(got, x) {
 			t.Fatalf("Compile(%s): fault %v\n%+v, want\n%+v", file, fault, got, x)
