@@ -69,6 +69,9 @@ func TakesRow(f api.FieldType, kind int) bool {
 	return isList && scalar.Numeric(f.Kind) && kind == api.Chunk
 }
 
+// IsWay tells whether a path can go on through a field, into the one message that it holds.
+func IsWay(f api.FieldType) bool { return f.Label == api.Optional && f.Kind == api.Message }
+
 // Symbol tells the first of an enum's symbols that is so.
 func Symbol(x api.Type, isSo func(api.Symbol) bool) (api.Symbol, bool) {
 	return firstOf(x.Symbols, isSo)

@@ -99,31 +99,6 @@ func pathsAgain(x api.Table, index int, m api.Msg) []string {
 	return l
 }
 
-// crossed tells a table in which many paths go on: its types 0 and 1 hold each other and themselves.
-func crossed() api.Table {
-	of := func(name string, number, label, ref int) api.FieldType {
-		return api.FieldType{Name: name, Number: number, Kind: api.Message, Label: label, Ref: ref}
-	}
-	a := samples.Message("A", api.FieldType{Name: "x", Number: 1, Kind: api.Uint64}, of("a", 2, api.Optional, 0), of("ab", 3, api.Optional, 1), of("l", 4, api.Repeated, 0), of("o", 5, api.Member, 1), of("p", 6, api.Member, 0))
-	a.Oneofs = []string{"of"}
-	b := samples.Message("B", of("b", 1, api.Optional, 1), of("x", 2, api.Optional, 0), api.FieldType{Name: "l", Number: 9, Kind: api.String, Label: api.Map, Key: api.Bool}, of("m", 12, api.Map, 0))
-	b.Fields[3].Key = api.Int32
-	return samples.Table(a, b)
-}
-
-// sample tells a table and a message's index in it.
-func sample(m *samples.Maker) (api.Table, int) {
-	switch m.Below(4) {
-	case 0:
-		return m.Table(), 0
-	case 1:
-		return wide(), 1 + m.Below(2)
-	case 2:
-		return em(), 1
-	}
-	return crossed(), m.Below(2)
-}
-
 // pathOf tells a path of a type that has fields.
 func pathOf(m *samples.Maker, x api.Table, index int) string {
 	f := samples.Pick(m, x.Types[index].Fields...)
@@ -151,7 +126,7 @@ func bent(m *samples.Maker, path string) string {
 func TestMergeAgain(t *testing.T) {
 	m := samples.New(101)
 	for range 3000 {
-		x, index := sample(m)
+		x, index := m.Sample()
 		a, b := m.Message(x, index, 3), m.Message(x, index, 3)
 		got, e := merge.Merge(x, index, a, b)
 		if want := samples.Merged(x, index, a, b); e != api.OK || told(got) != told(want) {
@@ -164,7 +139,7 @@ func TestMasksAgain(t *testing.T) {
 	m := samples.New(102)
 	var into, cut int
 	for range 5000 {
-		x, index := sample(m)
+		x, index := m.Sample()
 		a, mask := m.Message(x, index, 4), maskOf(m, x, index)
 		kept, e := merge.Keep(x, index, a, mask)
 		left, e2 := merge.Drop(x, index, a, mask)
@@ -188,7 +163,7 @@ func TestPathsAgain(t *testing.T) {
 	m := samples.New(103)
 	found := map[api.Errno]int{}
 	for range 5000 {
-		x, index := sample(m)
+		x, index := m.Sample()
 		if len(x.Types[index].Fields) == 0 {
 			continue
 		}

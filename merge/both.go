@@ -46,7 +46,7 @@ func withoutRivals(x api.Type, own, others []api.Field) []api.Field {
 // both tells what becomes of a field that both messages have.
 func (l types) both(f api.FieldType, a, b api.Field) api.Field {
 	switch {
-	case isWay(f):
+	case fields.IsWay(f):
 		return around(f.Number, l.merged(l[f.Ref], within(a), within(b)))
 	case f.Label == api.Repeated || f.Label == api.Packed:
 		return api.Field{Number: f.Number, Vals: slices.Concat(a.Vals, b.Vals)}

@@ -42,7 +42,7 @@ func dropOf(t *testing.T, x api.Table, index int, a api.Msg, mask []string) api.
 func TestP10_4Merge(t *testing.T) {
 	m := samples.New(104)
 	for range 2500 {
-		x, index := sample(m)
+		x, index := m.Sample()
 		a, b, c := m.Message(x, index, 3), m.Message(x, index, 3), m.Message(x, index, 3)
 		lookAtMerge(t, x, index, a, msg(), a)
 		lookAtMerge(t, x, index, msg(), a, a)
@@ -59,7 +59,7 @@ func TestT4(t *testing.T) {
 	m := samples.New(105)
 	reads := 0
 	for range 6000 {
-		x, index := sample(m)
+		x, index := m.Sample()
 		a, b := m.Bytes(x, index, 4), m.Bytes(x, index, 4)
 		if m.Below(5) == 0 {
 			a = m.Bent(a)
@@ -114,7 +114,7 @@ func bareAgain(x api.Table, index int, m api.Msg) api.Msg {
 func TestP10_4Masks(t *testing.T) {
 	m := samples.New(106)
 	for range 2500 {
-		x, index := sample(m)
+		x, index := m.Sample()
 		a := m.Message(x, index, 4)
 		paths, e := merge.Paths(x, index, a)
 		kept := keepOf(t, x, index, a, paths)
@@ -146,7 +146,7 @@ func TestP10_4Masks(t *testing.T) {
 func TestPathsAreThere(t *testing.T) {
 	m := samples.New(107)
 	for range 1000 {
-		x, index := sample(m)
+		x, index := m.Sample()
 		a := m.Message(x, index, 4)
 		paths, _ := merge.Paths(x, index, a)
 		for i, path := range paths {

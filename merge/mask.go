@@ -19,7 +19,7 @@ func (l types) wayOf(x api.Type, path string) (way, bool) {
 	for {
 		name, rest, goesOn := strings.Cut(path, ".")
 		f, ok := fields.Named(x.Fields, name)
-		if !ok || goesOn && !isWay(f) {
+		if !ok || goesOn && !fields.IsWay(f) {
 			return nil, false
 		}
 		w = append(w, f.Number)
@@ -29,9 +29,6 @@ func (l types) wayOf(x api.Type, path string) (way, bool) {
 		x, path = l[f.Ref], rest
 	}
 }
-
-// isWay tells whether a path can go on through a field.
-func isWay(f api.FieldType) bool { return f.Label == api.Optional && f.Kind == api.Message }
 
 // within tells the message in a field through which a path can go on.
 func within(own api.Field) api.Msg { return own.Vals[0].M[0] }
@@ -93,7 +90,7 @@ func (l *lister) list(x api.Type, m api.Msg) {
 		f, _ := fields.Find(x.Fields, own.Number)
 		before := len(l.ahead)
 		l.ahead = append(l.ahead, f.Name...)
-		if isWay(f) && len(within(own).Fields) > 0 {
+		if fields.IsWay(f) && len(within(own).Fields) > 0 {
 			l.ahead = append(l.ahead, '.')
 			l.list(l.types[f.Ref], within(own))
 		} else {

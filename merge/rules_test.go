@@ -21,7 +21,7 @@ func TestR1R2(t *testing.T) {
 	m := samples.New(108)
 	seen := map[api.Errno]int{}
 	for range 6000 {
-		x, index := sample(m)
+		x, index := m.Sample()
 		a, b, mask := m.Message(x, index, 3), m.Message(x, index, 3), maskOf(m, x, index)
 		for _, spoil := range []func(){
 			func() { x = m.Spoiled(x) },
@@ -172,7 +172,7 @@ func TestR1Many(t *testing.T) {
 func TestR4Arguments(t *testing.T) {
 	m := samples.New(109)
 	for range 1000 {
-		x, index := sample(m)
+		x, index := m.Sample()
 		a, b := samples.WithRoom(m.Message(x, index, 3)), samples.WithRoom(m.Message(x, index, 3))
 		if m.Below(5) == 0 {
 			a = samples.WithRoom(m.Wild(2))
@@ -191,7 +191,7 @@ func TestR4Arguments(t *testing.T) {
 func TestR4AnswersAreNew(t *testing.T) {
 	m := samples.New(110)
 	for range 1000 {
-		x, index := sample(m)
+		x, index := m.Sample()
 		a, b := samples.WithRoom(m.Message(x, index, 3)), samples.WithRoom(m.Message(x, index, 3))
 		if m.Below(4) == 0 {
 			b = a
@@ -230,7 +230,7 @@ func TestR4PathsAreNew(t *testing.T) {
 func TestR4EmptyLists(t *testing.T) {
 	m := samples.New(111)
 	for range 1000 {
-		x, index := sample(m)
+		x, index := m.Sample()
 		a, b, mask := m.Message(x, index, 3), m.Message(x, index, 3), maskOf(m, x, index)
 		if m.Below(4) == 0 {
 			a = m.Changed(a)

@@ -31,7 +31,7 @@ func TestParseAgain(t *testing.T) {
 	m := samples.New(112)
 	seen := map[api.Errno]int{}
 	for range 10000 {
-		x, index := sample(m)
+		x, index := m.Sample()
 		a := m.Message(x, index, 2)
 		if m.Below(10) == 0 {
 			a = deepened(m, x, index, a)
@@ -131,7 +131,7 @@ func TestPrintAgain(t *testing.T) {
 	m := samples.New(113)
 	seen := map[api.Errno]int{}
 	for range 6000 {
-		x, index := sample(m)
+		x, index := m.Sample()
 		a := m.Message(x, index, 3)
 		if m.Below(10) == 0 {
 			a = deepened(m, x, index, a)

@@ -9,31 +9,6 @@ import (
 	"cartouche/table"
 )
 
-// crossed tells a table in which messages hold each other by each label; its types 0 and 1 are messages, type 2 is an enum.
-func crossed() api.Table {
-	of := func(name string, number, label, ref int) api.FieldType {
-		return api.FieldType{Name: name, Number: number, Kind: api.Message, Label: label, Ref: ref}
-	}
-	a := samples.Message("A", api.FieldType{Name: "x", Number: 1, Kind: api.Sint32}, of("a", 2, api.Optional, 0), of("b", 3, api.Optional, 1), of("l", 4, api.Repeated, 0), of("o", 5, api.Member, 1), of("p", 6, api.Member, 0), api.FieldType{Name: "e", Number: 7, Kind: api.Enum, Ref: 2, Label: api.Packed})
-	a.Oneofs = []string{"of"}
-	b := samples.Message("B", of("b", 1, api.Optional, 1), of("x", 2, api.Optional, 0), api.FieldType{Name: "l", Number: 9, Kind: api.String, Label: api.Map, Key: api.Bool}, of("m", 12, api.Map, 0))
-	b.Fields[3].Key = api.Int32
-	return samples.Table(a, b, samples.Symbols())
-}
-
-// sample tells a table and a message's index in it.
-func sample(m *samples.Maker) (api.Table, int) {
-	switch m.Below(4) {
-	case 0:
-		return m.Table(), 0
-	case 1:
-		return wide(), 1 + m.Below(2)
-	case 2:
-		return em(), 1
-	}
-	return crossed(), m.Below(2)
-}
-
 // deepened tells a message around another one, with more depth than may be now and then.
 func deepened(m *samples.Maker, x api.Table, index int, a api.Msg) api.Msg {
 	for _, f := range x.Types[index].Fields {

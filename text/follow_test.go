@@ -17,7 +17,7 @@ func TestP11_3Back(t *testing.T) {
 	m := samples.New(114)
 	var normal, other int
 	for range 4000 {
-		x, index := sample(m)
+		x, index := m.Sample()
 		a := m.Message(x, index, 3)
 		if m.Below(2) == 0 {
 			a, _ = model.Settle(x, index, a)
@@ -81,7 +81,7 @@ func TestP11_3Values(t *testing.T) {
 func TestP11_3Blanks(t *testing.T) {
 	m := samples.New(115)
 	for range 2500 {
-		x, index := sample(m)
+		x, index := m.Sample()
 		a := m.Message(x, index, 2)
 		s, e := text.Print(x, index, a)
 		words, f := lex.Split(s)
@@ -105,7 +105,7 @@ func TestP11_3Faults(t *testing.T) {
 	m := samples.New(116)
 	faults := 0
 	for range 2500 {
-		x, index := sample(m)
+		x, index := m.Sample()
 		words := wordsOf(m, x, index, m.Message(x, index, 2))
 		for range 1 + m.Below(2) {
 			if len(words) > 0 {
@@ -147,7 +147,7 @@ func TestP11_3Again(t *testing.T) {
 	m := samples.New(117)
 	reads := 0
 	for range 3000 {
-		x, index := sample(m)
+		x, index := m.Sample()
 		words := wordsOf(m, x, index, m.Message(x, index, 2))
 		if len(words) > 0 && m.Below(4) == 0 {
 			words = bent(m, x, words)

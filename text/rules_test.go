@@ -51,7 +51,7 @@ func TestR1R2(t *testing.T) {
 	m := samples.New(118)
 	printed, read := map[api.Errno]int{}, map[api.Errno]int{}
 	for range 6000 {
-		x, index := sample(m)
+		x, index := m.Sample()
 		a := m.Message(x, index, 2)
 		words := wordsOf(m, x, index, a)
 		for range m.Below(3) {
@@ -197,7 +197,7 @@ func slicesOf[T any](count int, one T) []T {
 func TestR4Arguments(t *testing.T) {
 	m := samples.New(119)
 	for range 1500 {
-		x, index := sample(m)
+		x, index := m.Sample()
 		a := samples.WithRoom(m.Message(x, index, 3))
 		s := laid(m, wordsOf(m, x, index, a))
 		if m.Below(4) == 0 {
@@ -215,7 +215,7 @@ func TestR4Arguments(t *testing.T) {
 func TestR4AnswersAreNew(t *testing.T) {
 	m := samples.New(120)
 	for range 1500 {
-		x, index := sample(m)
+		x, index := m.Sample()
 		s := laid(m, wordsOf(m, x, index, m.Message(x, index, 3)))
 		one, f := text.Parse(x, index, s)
 		two, _ := text.Parse(x, index, s)
@@ -241,7 +241,7 @@ func TestR4AnswersAreNew(t *testing.T) {
 func TestR4EmptyLists(t *testing.T) {
 	m := samples.New(121)
 	for range 1500 {
-		x, index := sample(m)
+		x, index := m.Sample()
 		a := m.Message(x, index, 3)
 		if m.Below(3) == 0 {
 			a = m.Changed(a)
